@@ -1,0 +1,1 @@
+"""Boxeffects: what a row of calls does to boxes of unknown contents."""

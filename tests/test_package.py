@@ -1,0 +1,84 @@
+"""The package as a whole: its files, its interface, its size, and the examples of README.md."""
+
+import ast
+import doctest
+import unittest
+from pathlib import Path
+
+TOP = Path(__file__).resolve().parent.parent
+PACKAGE = TOP / "boxeffects"
+
+INTERFACE = {
+    "kinds": "is_letter(value) is_kind(value) is_step(kind,value) is_row(kind,value) is_contents(kind,value) "
+             "size_of(kind,contents) under_head(contents,place) new_letter(letters)",
+    "boxes": "left_by_row(kind,row,contents) failing_step(kind,row,contents) course_of(kind,row,contents)",
+    "stacks": "stack_form(row) stack_then(one,other) is_stack_form(value) stack_works(form,contents) "
+              "stack_left(form,contents) stack_partners(row) stack_clash(row) shows_stack_clash(row,value)",
+}
+METHODS = (
+    "append clear copy count endswith extend find get index insert items join keys pop remove setdefault sort "
+    "startswith update values"
+).split()
+
+
+def trees():
+    return {path.stem: ast.parse(path.read_text(encoding="ascii")) for path in sorted(PACKAGE.glob("*.py"))}
+
+
+class Package(unittest.TestCase):
+    def test_only_python_files_of_plain_characters(self):
+        for path in PACKAGE.rglob("*"):
+            if "__pycache__" in path.parts:
+                continue
+            self.assertEqual(path.suffix, ".py", path)
+            text = path.read_text(encoding="ascii")
+            self.assertTrue(all(sign == "\n" or " " <= sign <= "~" for sign in text), path)
+            self.assertLess(len(text.splitlines()), 400, path)
+            self.assertLessEqual(max(len(line) for line in text.splitlines()), 120, path)
+
+    def test_functions_are_small(self):
+        for name, tree in trees().items():
+            for node in ast.walk(tree):
+                if isinstance(node, ast.FunctionDef):
+                    self.assertLessEqual(node.end_lineno - node.lineno + 1, 40, (name, node.name))
+
+    def test_interface_stands_in_its_files(self):
+        found = trees()
+        for name, listed in INTERFACE.items():
+            told = {
+                f"{node.name}({','.join(arg.arg for arg in node.args.args)})"
+                for node in found[name].body if isinstance(node, ast.FunctionDef)
+            }
+            self.assertEqual(set(listed.split()) - told, set(), name)
+
+    def test_imports_are_of_the_package_alone(self):
+        found = trees()
+        for name, tree in found.items():
+            for node in ast.walk(tree):
+                self.assertNotIsInstance(node, (ast.Import, ast.Global, ast.JoinedStr, ast.Set), name)
+                if isinstance(node, ast.ImportFrom):
+                    package, _, source = node.module.partition(".")
+                    self.assertEqual((package, node.level), ("boxeffects", 0), name)
+                    here = [getattr(part, "name", None) for part in found[source].body]
+                    here += [part.targets[0].id for part in found[source].body if isinstance(part, ast.Assign)]
+                    for alias in node.names:
+                        self.assertIsNone(alias.asname)
+                        self.assertIn(alias.name, here, name)
+
+    def test_methods_of_values_are_the_allowed_ones(self):
+        for name, tree in trees().items():
+            for node in ast.walk(tree):
+                if isinstance(node, ast.Attribute) and isinstance(node.ctx, ast.Load):
+                    self.assertIn(node.attr, METHODS, name)
+
+    def test_examples_of_the_readme(self):
+        # A fence behind an example would be read as a part of what it tells.
+        text = (TOP / "README.md").read_text(encoding="ascii").replace("```", "")
+        told = doctest.DocTestParser().get_doctest(text, {}, "README.md", None, 0)
+        result = doctest.DocTestRunner().run(told)
+        self.assertEqual(result.failed, 0)
+        self.assertGreater(result.attempted, 0)
+
+
+if __name__ == "__main__":
+    unittest.main()
