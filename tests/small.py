@@ -2,8 +2,20 @@
 
 from itertools import product
 
+
+class Everything:
+    """An object that says of itself that it equals whatever it is compared with."""
+
+    def __eq__(self, other):
+        return True
+
+    def __hash__(self):
+        return 0
+
+
 # None of these is a letter, a kind, a row, a contents that is not a number, a form, or a number.
-ODD = (True, False, 1.0, "", "A", "abcde", b"a", [], {}, set(), object(), (None,), ((),), ("a", 1), ["a"])
+ODD = (True, False, 1.0, "", "A", "abcde", b"a", [], {}, set(), object(), (None,), ((),), ("a", 1), ["a"],
+       Everything(), (Everything(),), (Everything(), Everything()), (Everything(), Everything(), Everything()))
 
 
 def words(most, letters=("a", "b")):

@@ -52,6 +52,15 @@ STEPS = (
     (TAPE, ("expect", "c"), (((0, "c"),), "a"), (((0, "c"),), "a")),
     (TAPE, ("expect", "a"), (((0, "c"),), "a"), None),
     (TAPE, ("expect", "b"), ((), "a"), None),
+    # Letters and names can be called as steps are.
+    (STACK, ("push", "pop"), ("pop",), ("pop", "pop")),
+    (STACK, ("pop", "push"), ("push",), ()),
+    (QUEUE, ("put", "take"), ("a",), ("a", "take")),
+    (QUEUE, ("take", "put"), ("put",), ()),
+    (DROP, ("put", "take"), ("a",), ("a", "take")),
+    (TAPE, ("write", "left"), ((), "a"), (((0, "left"),), "a")),
+    (TAPE, ("expect", "left"), ((), "left"), ((), "left")),
+    (TABLE, ("set", "set", "set"), (), (("set", "set"),)),
     (HEAP, ("insert", 5), (1, 5, 7), (1, 5, 5, 7)),
     (HEAP, ("insert", -999), (-1000, 1000), (-1000, -999, 1000)),
     (HEAP, ("insert", 999), (), (999,)),
@@ -139,7 +148,8 @@ class Errors(unittest.TestCase):
             self.assertEqual(raised(call, FAIL, (), ("a",) * 3), ("NoContents", ("a",) * 3))
 
     def test_too_many(self):
-        names = [one + two + three for one in "abcdefghijklmnopq" for two in "abcdefghijklmnopq" for three in "abcdefghijklmnopq"]
+        signs = "abcdefghijklmnopq"
+        names = [one + two + three for one in signs for two in signs for three in signs]
         full = (
             (STACK, ("push", "a"), ("pop", "a"), ("pop", "b"), ("a",) * 4000),
             (QUEUE, ("put", "a"), ("take", "a"), ("take", "b"), ("a",) * 4000),

@@ -3,10 +3,19 @@
 import copy
 import unittest
 
-from boxeffects import boxes, kinds, stacks
+from boxeffects import boxes, kinds, queuepowers, queues, rings, stacks, tapes
+from small import raised
 
 STACK = ("stack",)
 PUSH = (("push", "a"), ("push", "b"), ("pop", "c"))
+PUT = (("put", "a"), ("take", "b"))
+QUEUE_FORM = (("a",), ("a", "b"), 1)
+RING = ("ring", 2, "ignore")
+RING_ROW = (("put", "a"), ("put", "b"), ("take",))
+RING_FORM = ((0, ("b",)), None, (1, ()))
+WALK = (("a", "b"), 1, (0, 1), 0, 1)
+TAPE_ROW = (("write", "a"), ("right",), ("expect", "b"))
+TAPE_FORM = (1, ((0, "a"),), ((1, "b"),))
 
 # Each function, with arguments by name, in the order of the interface.
 CALLS = (
@@ -29,9 +38,53 @@ CALLS = (
     (stacks.stack_partners, {"row": PUSH}),
     (stacks.stack_clash, {"row": PUSH}),
     (stacks.shows_stack_clash, {"row": PUSH, "value": (1, 2)}),
+    (queues.queue_form, {"row": PUT}),
+    (queues.queue_then, {"one": QUEUE_FORM, "other": ((), ("c",), 0)}),
+    (queues.is_queue_form, {"value": QUEUE_FORM}),
+    (queues.normal_least, {"u": ("a", "b"), "v": ("b",), "d": 0}),
+    (queues.queue_works, {"form": QUEUE_FORM, "contents": ("a",)}),
+    (queues.queue_left, {"form": QUEUE_FORM, "contents": ("a",)}),
+    (queues.queue_shorts, {"form": (("a",), ("a",), 0)}),
+    (queues.bears_length, {"row": PUT, "length": 0}),
+    (queues.queue_clash, {"row": PUT, "length": 0}),
+    (queues.shows_queue_clash, {"row": PUT, "length": 0, "value": ("unlike", 0, 1)}),
+    (queues.queue_source, {"row": PUT, "length": 1, "number": 0}),
+    (queuepowers.power_least, {"form": QUEUE_FORM, "times": 3}),
+    (queuepowers.power_works, {"form": QUEUE_FORM, "times": 1, "contents": ("a",)}),
+    (queuepowers.power_length, {"form": QUEUE_FORM, "times": 1, "contents": ("a",)}),
+    (queuepowers.power_letter, {"form": QUEUE_FORM, "times": 1, "contents": ("a",), "index": 1}),
+    (queuepowers.power_left, {"form": QUEUE_FORM, "times": 1, "contents": ("a",)}),
+    (queuepowers.powers_alike, {"one": QUEUE_FORM, "times": 2, "other": QUEUE_FORM, "more": 3}),
+    (queuepowers.most_times, {"form": QUEUE_FORM, "contents": ("a",)}),
+    (queuepowers.endless_contents, {"form": (("a",), ("a",), 1), "length": 2}),
+    (rings.ring_form, {"kind": RING, "row": RING_ROW}),
+    (rings.is_ring_form, {"kind": RING, "value": RING_FORM}),
+    (rings.ring_then, {"kind": RING, "one": RING_FORM, "other": ((0, ("c",)), (1, ("c",)), None)}),
+    (rings.ring_works, {"kind": RING, "form": RING_FORM, "contents": ("a", "c")}),
+    (rings.ring_left, {"kind": RING, "form": RING_FORM, "contents": ("a", "c")}),
+    (rings.walk_of, {"row": RING_ROW}),
+    (rings.is_walk, {"value": WALK}),
+    (rings.walk_then, {"one": WALK, "other": ((), 1, (), 1, 1)}),
+    (rings.ring_by_walk, {"kind": RING, "walk": WALK}),
+    (rings.row_by_walk, {"walk": WALK}),
+    (rings.spilt_by, {"kind": RING, "row": RING_ROW, "length": 1}),
+    (rings.least_ring, {"row": RING_ROW, "length": 1}),
+    (tapes.tape_form, {"row": TAPE_ROW}),
+    (tapes.is_tape_form, {"value": TAPE_FORM}),
+    (tapes.tape_then, {"one": TAPE_FORM, "other": (2, (), ((0, "c"),))}),
+    (tapes.tape_works, {"form": TAPE_FORM, "contents": ((), "a")}),
+    (tapes.tape_left, {"form": TAPE_FORM, "contents": ((), "a")}),
+    (tapes.tape_known, {"form": TAPE_FORM}),
+    (tapes.tape_needs, {"form": TAPE_FORM, "wanted": [(0, "b"), (5, "c")]}),
+    (tapes.tapes_meet, {"one": TAPE_FORM, "other": (2, ((3, "c"),), ())}),
+    (tapes.tapes_agree, {"one": TAPE_FORM, "other": (2, ((3, "c"),), ())}),
+    (tapes.tape_clash, {"row": (("write", "a"), ("expect", "b"))}),
+    (tapes.accepts_clash, {"row": (("write", "a"), ("expect", "b")), "paper": (0, 1)}),
 )
 TRUTHS = ("is_", "shows_", "accepts_", "bears_")
-TRUTHS_TOO = ("stack_works",)
+TRUTHS_TOO = (
+    "stack_works", "queue_works", "power_works", "ring_works", "tape_works", "powers_alike", "tapes_agree",
+)
 
 
 class Calls(unittest.TestCase):
@@ -79,6 +132,30 @@ class Calls(unittest.TestCase):
         letters.append("c")
         self.assertEqual(told, "c")
         self.assertEqual(kinds.new_letter(letters), "d")
+        wanted = [(1, "b")]
+        told = tapes.tape_needs((0, (), ()), wanted)
+        wanted.append((2, "c"))
+        self.assertEqual(told, ((1, "b"),))
+        self.assertEqual(tapes.tape_needs((0, (), ()), wanted), ((1, "b"), (2, "c")))
+
+    def test_true_and_false_are_no_numbers_and_nothing_else(self):
+        for call, named in CALLS:
+            for name in named:
+                for value in (True, False):
+                    given = {**named, name: value}
+                    with self.subTest(call=call.__name__, given=given):
+                        self.check_refused(call, name, given)
+
+    def check_refused(self, call, name, given):
+        told = raised(call, **given)
+        if told is None:
+            # What takes any value tells that it is none.
+            self.assertIn(name, ("value", "paper"))
+            self.assertIs(call(**given), False)
+        elif call is queues.normal_least:
+            self.assertEqual(told, ("NoForm", tuple(given.values())))
+        else:
+            self.assertIs(told[1], None if name == "letters" else given[name])
 
 
 if __name__ == "__main__":

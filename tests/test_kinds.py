@@ -3,7 +3,7 @@
 import unittest
 
 from boxeffects.kinds import is_contents, is_kind, is_letter, is_row, is_step, new_letter, size_of, under_head
-from small import ODD, raised
+from small import ODD, Everything, raised
 
 STACK = ("stack",)
 QUEUE = ("queue",)
@@ -26,7 +26,8 @@ STEPS = {
 }
 WRONG_STEPS = {
     STACK: (("push",), ("pop",), ("put", "a"), ("push", "a", "b"), ["push", "a"], ("push", 1), ("push", "A"),
-            ("push", ""), ("push", "abcde"), ("push", ["a"]), ("push", None), "push", ("a", "push")),
+            ("push", ""), ("push", "abcde"), ("push", ["a"]), ("push", None), "push", ("a", "push"),
+            (["push"], "a"), (Everything(), "a"), ("push", Everything())),
     QUEUE: (("take",), ("put",), ("push", "a"), ("put", "a", "a"), ["put", "a"], ("take", ("a",))),
     RING: (("take", "a"), ("put",), ("push", "a"), ["take"], ("put", 1)),
     TAPE: (("left", 1), ("right", "a"), ("write",), ("expect",), ("expect", "n", "x"), ["left"], ("read", "a")),
@@ -97,7 +98,7 @@ class Kinds(unittest.TestCase):
             ("gauge", 1000, "stop"), ("gauge", 5, "drop"), ("gauge", 5), ("gauge", True, "fail"),
             ("gauge", 5, "ignore"), ("gauge", 5, ()), ("stack", 1), ("stack", 3, "drop"), "stack", ["stack"],
             ["ring", 3, "drop"], ("Stack",), ("deque",), (), (1,), (("stack",),), ("tape", "a"), (["stack"],),
-            ("",), None, 0, 1,
+            ("",), None, 0, 1, ("deque", 3, "drop"), ("ring", 3, Everything()), ("gauge", 3, Everything()),
         ]
         for value in (*wrong, *ODD):
             self.assertIs(is_kind(value), False, value)

@@ -14,6 +14,18 @@ INTERFACE = {
     "boxes": "left_by_row(kind,row,contents) failing_step(kind,row,contents) course_of(kind,row,contents)",
     "stacks": "stack_form(row) stack_then(one,other) is_stack_form(value) stack_works(form,contents) "
               "stack_left(form,contents) stack_partners(row) stack_clash(row) shows_stack_clash(row,value)",
+    "queues": "queue_form(row) queue_then(one,other) is_queue_form(value) normal_least(u,v,d) "
+              "queue_works(form,contents) queue_left(form,contents) queue_shorts(form) bears_length(row,length) "
+              "queue_clash(row,length) shows_queue_clash(row,length,value) queue_source(row,length,number)",
+    "queuepowers": "power_least(form,times) power_works(form,times,contents) power_length(form,times,contents) "
+                   "power_letter(form,times,contents,index) power_left(form,times,contents) "
+                   "powers_alike(one,times,other,more) most_times(form,contents) endless_contents(form,length)",
+    "rings": "ring_form(kind,row) is_ring_form(kind,value) ring_then(kind,one,other) ring_works(kind,form,contents) "
+             "ring_left(kind,form,contents) walk_of(row) is_walk(value) walk_then(one,other) ring_by_walk(kind,walk) "
+             "row_by_walk(walk) spilt_by(kind,row,length) least_ring(row,length)",
+    "tapes": "tape_form(row) is_tape_form(value) tape_then(one,other) tape_works(form,contents) "
+             "tape_left(form,contents) tape_known(form) tape_needs(form,wanted) tapes_meet(one,other) "
+             "tapes_agree(one,other) tape_clash(row) accepts_clash(row,paper)",
 }
 METHODS = (
     "append clear copy count endswith extend find get index insert items join keys pop remove setdefault sort "

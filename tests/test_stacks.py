@@ -35,6 +35,11 @@ class Forms(unittest.TestCase):
         self.assertIsNone(stack_form((("pop", "a"), ("push", "a"), ("push", "c"), ("pop", "b"), ("pop", "a"))))
         self.assertEqual(stack_form((("push", "a"),) * 60), ((), ("a",) * 60))
 
+    def test_letters_that_are_called_as_steps(self):
+        self.assertEqual(stack_form((("push", "pop"),)), ((), ("pop",)))
+        self.assertEqual(stack_form((("pop", "push"),)), (("push",), ()))
+        self.assertEqual(stack_clash((("push", "pop"), ("pop", "push"))), (0, 1))
+
     def test_forms_do_what_the_steps_do(self):
         for row in rows(STACK_STEPS, 4):
             form = stack_form(row)
