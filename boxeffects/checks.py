@@ -28,6 +28,12 @@ def need_count(count, least, most):
         raise NoCount(count)
 
 
+def need_natural(count):
+    """Raise NoCount unless it is a number of at least 0."""
+    if not is_number(count) or count < 0:
+        raise NoCount(count)
+
+
 def need_size(many):
     """Raise TooMany if what is told would have more letters, numbers or pairs than let."""
     if many > MOST_SIZE:

@@ -80,6 +80,11 @@ def queue_then(one, other):
     """Return the form that one form and then another one make."""
     need_queue_form(one)
     need_queue_form(other)
+    return queue_both(one, other)
+
+
+def queue_both(one, other):
+    """Return the same of what are known to be forms."""
     u, v, d = one
     s, t, e = other
     need_size(max(len(u) + len(s), len(v) + len(t)))

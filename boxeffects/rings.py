@@ -99,6 +99,11 @@ def ring_then(kind, one, other):
     """Return the form that one form and then another one make."""
     need_ring_form(kind, one)
     need_ring_form(kind, other)
+    return ring_both(one, other)
+
+
+def ring_both(one, other):
+    """Return the same of what are known to be forms of one ring."""
     if one is None or other is None:
         return None
     return told_ring_form([joined_item(item, other) for item in one])

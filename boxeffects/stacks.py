@@ -39,6 +39,11 @@ def stack_then(one, other):
     """Return the form that one form and then another one make."""
     need_stack_form(one)
     need_stack_form(other)
+    return stack_both(one, other)
+
+
+def stack_both(one, other):
+    """Return the same of what are known to be forms."""
     if one is None or other is None:
         return None
     u, v = one

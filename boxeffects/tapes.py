@@ -4,6 +4,7 @@ from boxeffects.boxes import told_tape
 from boxeffects.checks import is_one_of, need_contents, need_row, need_size
 from boxeffects.errors import NoForm, NoPlace
 from boxeffects.kinds import are_pairs, is_number, is_pair
+from boxeffects.places import can_lie, known_of, met_places, told_places
 
 TAPE = ("tape",)
 
@@ -27,19 +28,6 @@ def need_tape_form(form):
         raise NoForm(form)
 
 
-def told_tape_form(s, expected, written):
-    """Return the form of these letters at places: what is expected of the whole is not written."""
-    left = [(place, written[place]) for place in written if written[place] != expected.get(place)]
-    return s, tuple(sorted(expected.items())), tuple(sorted(left))
-
-
-def can_lie(expected, written, place, letter):
-    """Tell whether the letter can lie at the place now; where nothing is known it is expected from then on."""
-    if place in written:
-        return written[place] == letter
-    return expected.setdefault(place, letter) == letter
-
-
 def tape_form(row):
     """Return the form of a row, None if it is nowhere."""
     need_row(TAPE, row)
@@ -55,13 +43,18 @@ def tape_form(row):
             written[head] = step[1]
         elif not can_lie(expected, written, head, step[1]):
             return None
-    return told_tape_form(head, expected, written)
+    return (head,) + told_places(expected, written)
 
 
 def tape_then(one, other):
     """Return the form that one form and then another one make."""
     need_tape_form(one)
     need_tape_form(other)
+    return tape_both(one, other)
+
+
+def tape_both(one, other):
+    """Return the same of what are known to be forms."""
     if one is None or other is None:
         return None
     s = one[0]
@@ -72,7 +65,7 @@ def tape_then(one, other):
             return None
     for place, letter in other[2]:
         written[place + s] = letter
-    made = told_tape_form(s + other[0], expected, written)
+    made = (s + other[0],) + told_places(expected, written)
     need_size(max(len(made[1]), len(made[2])))
     return made
 
@@ -101,19 +94,12 @@ def tape_left(form, contents):
     return left
 
 
-def known_of(form):
-    """Return the dict from the places of a form, seen from the head ahead, to the letters behind it."""
-    known = dict(form[1])
-    known.update(dict(form[2]))
-    return known
-
-
 def tape_known(form):
     """Return the pairs, seen from the head behind, that are known behind the form; None of None."""
     need_tape_form(form)
     if form is None:
         return None
-    known = known_of(form)
+    known = known_of(form[1], form[2])
     return tuple(sorted([(place - form[0], known[place]) for place in known]))
 
 
@@ -131,8 +117,8 @@ def tape_needs(form, wanted):
         raise NoPlace(wanted)
     if form is None:
         return None
-    s, expected, _ = form
-    known = known_of(form)
+    s, expected, written = form
+    known = known_of(expected, written)
     needs = dict(expected)
     for place, letter in wanted:
         if known.get(place + s, letter) != letter:
@@ -144,22 +130,13 @@ def tape_needs(form, wanted):
     return tuple(sorted(needs.items()))
 
 
-def met_letters(one, other):
-    """Return the dict from places to the letters that one form or the other expects, None if unlike ones."""
-    letters = dict(one[1])
-    for place, letter in other[1]:
-        if letters.setdefault(place, letter) != letter:
-            return None
-    return letters
-
-
 def tapes_meet(one, other):
     """Return the pairs that all contents have on which both forms work, None if there are no such contents."""
     need_tape_form(one)
     need_tape_form(other)
     if one is None or other is None:
         return None
-    letters = met_letters(one, other)
+    letters = met_places(one[1], other[1])
     return None if letters is None else tuple(sorted(letters.items()))
 
 
@@ -169,7 +146,7 @@ def tapes_agree(one, other):
     need_tape_form(other)
     if one is None or other is None:
         return True
-    left = met_letters(one, other)
+    left = met_places(one[1], other[1])
     if left is None:
         return True
     second = dict(left)

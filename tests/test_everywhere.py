@@ -3,7 +3,9 @@
 import copy
 import unittest
 
-from boxeffects import boxes, kinds, queuepowers, queues, rings, stacks, tapes
+from boxeffects import (
+    boxes, forms, gauges, heaps, kinds, queuepowers, queues, rings, several, stacks, tables, tapes,
+)
 from small import raised
 
 STACK = ("stack",)
@@ -16,6 +18,16 @@ RING_FORM = ((0, ("b",)), None, (1, ()))
 WALK = (("a", "b"), 1, (0, 1), 0, 1)
 TAPE_ROW = (("write", "a"), ("right",), ("expect", "b"))
 TAPE_FORM = (1, ((0, "a"),), ((1, "b"),))
+HEAP_ROW = (("least",), ("insert", 5), ("insert", 1))
+HEAP_FORM = (1, ((None, -1, 0), (1, 0, 1), (5, 1, 2)))
+STOP = ("gauge", 9, "stop")
+FAIL = ("gauge", 9, "fail")
+TABLE_FORM = ((("n", None),), (("m", "x"),))
+PAIRS = (("s", STACK), ("g", FAIL))
+BOXES = several.Boxes(PAIRS)
+MIXED = (("g", ("add", 5)), ("s", ("push", "a")), ("g", ("add", 5)))
+OTHER = (("s", ("push", "a")), ("g", ("add", 5)), ("g", ("add", 5)))
+MIXED_FORM = (((), ("a",)), (0, 5, 4))
 
 # Each function, with arguments by name, in the order of the interface.
 CALLS = (
@@ -80,11 +92,69 @@ CALLS = (
     (tapes.tapes_agree, {"one": TAPE_FORM, "other": (2, ((3, "c"),), ())}),
     (tapes.tape_clash, {"row": (("write", "a"), ("expect", "b"))}),
     (tapes.accepts_clash, {"row": (("write", "a"), ("expect", "b")), "paper": (0, 1)}),
+    (heaps.heap_form, {"row": HEAP_ROW}),
+    (heaps.heap_then, {"one": HEAP_FORM, "other": (0, ((None, 0, 0), (3, 1, 1)))}),
+    (heaps.is_heap_form, {"value": HEAP_FORM}),
+    (heaps.heap_works, {"form": HEAP_FORM, "contents": (7,)}),
+    (heaps.heap_left, {"form": HEAP_FORM, "contents": (7,)}),
+    (heaps.left_many, {"form": HEAP_FORM, "contents": (7,)}),
+    (heaps.left_kth, {"form": HEAP_FORM, "contents": (7,), "place": 1}),
+    (heaps.taken_by, {"form": HEAP_FORM, "contents": (7,)}),
+    (heaps.count_behind, {"form": HEAP_FORM, "t": 1, "many": 3}),
+    (heaps.sure_numbers, {"form": HEAP_FORM}),
+    (heaps.risked_numbers, {"form": HEAP_FORM}),
+    (heaps.told_heap_row, {"form": HEAP_FORM}),
+    (heaps.least_road, {"contents": (1, 2), "other": (2, 3)}),
+    (gauges.gauge_form, {"kind": STOP, "row": (("add", 5), ("sub", 3))}),
+    (gauges.gauge_then, {"kind": STOP, "one": (2, 2, 6), "other": (0, -1, 8)}),
+    (gauges.is_gauge_form, {"kind": STOP, "value": (2, 2, 6)}),
+    (gauges.gauge_works, {"kind": FAIL, "form": (0, 2, 4), "contents": 3}),
+    (gauges.gauge_left, {"kind": FAIL, "form": (0, 2, 4), "contents": 3}),
+    (gauges.gauge_origin, {"kind": STOP, "form": (2, 2, 6), "number": 6}),
+    (gauges.gauge_stops, {"kind": STOP, "row": (("add", 5), ("sub", 3)), "contents": 7}),
+    (gauges.gauge_depth, {"kind": FAIL, "row": (("add", 5), ("sub", 8))}),
+    (tables.table_form, {"row": (("absent", "n"), ("set", "m", "x"))}),
+    (tables.table_then, {"one": TABLE_FORM, "other": ((), (("n", "x"),))}),
+    (tables.table_common, {"one": TABLE_FORM, "other": ((("m", "y"),), ())}),
+    (tables.can_change_places, {"one": TABLE_FORM, "other": ((), (("n", "x"),))}),
+    (tables.is_table_form, {"value": TABLE_FORM}),
+    (tables.table_works, {"form": TABLE_FORM, "contents": (("o", "x"),)}),
+    (tables.table_left, {"form": TABLE_FORM, "contents": (("o", "x"),)}),
+    (tables.table_row, {"form": TABLE_FORM}),
+    (forms.form_of, {"kind": STACK, "row": PUSH[:2]}),
+    (forms.empty_form, {"kind": STACK}),
+    (forms.is_form, {"kind": STACK, "value": ((), ())}),
+    (forms.joined, {"kind": STACK, "one": ((), ("a",)), "other": (("a", "b"), ())}),
+    (forms.joined_all, {"kind": STACK, "forms": [((), ("a",)), (("a", "b"), ())]}),
+    (forms.works_on, {"kind": STACK, "form": (("a",), ()), "contents": ("a", "b")}),
+    (forms.left_by, {"kind": STACK, "form": (("a",), ()), "contents": ("a", "b")}),
+    (forms.rows_alike, {"kind": STACK, "one": PUSH[:2], "other": PUSH}),
+    (several.Boxes, {"pairs": [("s", STACK), ("g", FAIL)]}),
+    (BOXES.names, {}),
+    (BOXES.kind_of, {"name": "g"}),
+    (BOXES.has_step, {"value": ("s", ("push", "a"))}),
+    (several.own_row, {"boxes": BOXES, "row": MIXED, "name": "g"}),
+    (several.all_left, {"boxes": BOXES, "row": MIXED[:2], "contents": ((), 1)}),
+    (several.first_failing, {"boxes": BOXES, "row": MIXED, "contents": ((), 1)}),
+    (several.failing_of, {"boxes": BOXES, "row": MIXED, "contents": ((), 1)}),
+    (several.mixed_form, {"boxes": BOXES, "row": MIXED[:2]}),
+    (several.is_mixed_form, {"boxes": BOXES, "value": MIXED_FORM}),
+    (several.joined_mixed, {"boxes": BOXES, "one": MIXED_FORM, "other": ((("a", "b"), ()), (3, 1, 6))}),
+    (several.mixed_works, {"boxes": BOXES, "form": MIXED_FORM, "contents": ((), 1)}),
+    (several.mixed_left, {"boxes": BOXES, "form": MIXED_FORM, "contents": ((), 1)}),
+    (several.mixed_alike, {"boxes": BOXES, "one": MIXED, "other": OTHER}),
+    (several.parting_box, {"boxes": BOXES, "one": MIXED[:1], "other": MIXED[:2]}),
+    (several.same_but_order, {"boxes": BOXES, "one": MIXED, "other": OTHER}),
+    (several.least_exchanges, {"boxes": BOXES, "one": MIXED, "other": OTHER}),
+    (several.told_exchanges, {"boxes": BOXES, "one": MIXED, "other": OTHER}),
+    (several.leads_by, {"boxes": BOXES, "one": MIXED, "other": OTHER, "value": [0]}),
+    (several.orderly_row, {"boxes": BOXES, "row": MIXED}),
+    (several.how_many_orders, {"boxes": BOXES, "row": MIXED}),
 )
-TRUTHS = ("is_", "shows_", "accepts_", "bears_")
-TRUTHS_TOO = (
-    "stack_works", "queue_works", "power_works", "ring_works", "tape_works", "powers_alike", "tapes_agree",
-)
+TRUTHS = ("is_", "shows_", "accepts_", "bears_", "has_", "can_", "leads_", "same_", "works_")
+TRUTHS_TOO = ("_works", "_alike", "_agree")
+# Of these it is told where in the list a value is wrong, None if it is no list at all.
+LISTS = ("letters", "forms", "pairs")
 
 
 class Calls(unittest.TestCase):
@@ -95,6 +165,8 @@ class Calls(unittest.TestCase):
                 self.assertIsNotNone(told)
                 self.assertEqual(call(**named), told)
                 self.assertEqual(call(**dict(reversed(named.items()))), told)
+                if not named:
+                    continue
                 first = next(iter(named))
                 rest = {name: named[name] for name in named if name != first}
                 self.assertEqual(call(named[first], **rest), told)
@@ -103,14 +175,15 @@ class Calls(unittest.TestCase):
         for call, named in CALLS:
             with self.assertRaises(TypeError):
                 call(*named.values(), None)
-            with self.assertRaises(TypeError):
-                call(*list(named.values())[1:])
+            if named:
+                with self.assertRaises(TypeError):
+                    call(*list(named.values())[1:])
 
     def test_truths_are_bools(self):
         for call, named in CALLS:
             name = call.__name__
             told = call(**named)
-            self.assertEqual(isinstance(told, bool), name.startswith(TRUTHS) or name in TRUTHS_TOO, name)
+            self.assertEqual(isinstance(told, bool), name.startswith(TRUTHS) or name.endswith(TRUTHS_TOO), name)
 
     def test_what_was_handed_in_stays_as_it_was(self):
         for call, named in CALLS:
@@ -118,11 +191,11 @@ class Calls(unittest.TestCase):
             call(**named)
             self.assertEqual(named, held)
 
-    def test_returned_lists_are_new_ones(self):
+    def test_returned_lists_and_dicts_are_new_ones(self):
         for call, named in CALLS:
             told = call(**named)
-            if isinstance(told, list):
-                held = list(told)
+            if isinstance(told, (list, dict)):
+                held = copy.deepcopy(told)
                 told.clear()
                 self.assertEqual(call(**named), held)
 
@@ -155,7 +228,7 @@ class Calls(unittest.TestCase):
         elif call is queues.normal_least:
             self.assertEqual(told, ("NoForm", tuple(given.values())))
         else:
-            self.assertIs(told[1], None if name == "letters" else given[name])
+            self.assertIs(told[1], None if name in LISTS else given[name])
 
 
 if __name__ == "__main__":

@@ -26,11 +26,39 @@ INTERFACE = {
     "tapes": "tape_form(row) is_tape_form(value) tape_then(one,other) tape_works(form,contents) "
              "tape_left(form,contents) tape_known(form) tape_needs(form,wanted) tapes_meet(one,other) "
              "tapes_agree(one,other) tape_clash(row) accepts_clash(row,paper)",
+    "heaps": "heap_form(row) heap_then(one,other) is_heap_form(value) heap_works(form,contents) "
+             "heap_left(form,contents) left_many(form,contents) left_kth(form,contents,place) taken_by(form,contents) "
+             "count_behind(form,t,many) sure_numbers(form) risked_numbers(form) told_heap_row(form) "
+             "least_road(contents,other)",
+    "gauges": "gauge_form(kind,row) gauge_then(kind,one,other) is_gauge_form(kind,value) "
+              "gauge_works(kind,form,contents) gauge_left(kind,form,contents) gauge_origin(kind,form,number) "
+              "gauge_stops(kind,row,contents) gauge_depth(kind,row)",
+    "tables": "table_form(row) table_then(one,other) table_common(one,other) can_change_places(one,other) "
+              "is_table_form(value) table_works(form,contents) table_left(form,contents) table_row(form)",
+    "forms": "form_of(kind,row) empty_form(kind) is_form(kind,value) joined(kind,one,other) joined_all(kind,forms) "
+             "works_on(kind,form,contents) left_by(kind,form,contents) rows_alike(kind,one,other)",
+    "several": "own_row(boxes,row,name) all_left(boxes,row,contents) first_failing(boxes,row,contents) "
+               "failing_of(boxes,row,contents) mixed_form(boxes,row) is_mixed_form(boxes,value) "
+               "joined_mixed(boxes,one,other) mixed_works(boxes,form,contents) mixed_left(boxes,form,contents) "
+               "mixed_alike(boxes,one,other) parting_box(boxes,one,other) same_but_order(boxes,one,other) "
+               "least_exchanges(boxes,one,other) told_exchanges(boxes,one,other) leads_by(boxes,one,other,value) "
+               "orderly_row(boxes,row) how_many_orders(boxes,row)",
+}
+# The methods of each class of the interface, each defined in the class itself.
+CLASSES = {
+    ("several", "Boxes"): "__init__(self,pairs) names(self) kind_of(self,name) has_step(self,value) __eq__(self,other)",
 }
 METHODS = (
     "append clear copy count endswith extend find get index insert items join keys pop remove setdefault sort "
     "startswith update values"
 ).split()
+
+
+OWN_METHODS = "names kind_of has_step pairs".split()
+
+
+def signature(node):
+    return f"{node.name}({','.join(arg.arg for arg in node.args.args)})"
 
 
 def trees():
@@ -57,10 +85,14 @@ class Package(unittest.TestCase):
     def test_interface_stands_in_its_files(self):
         found = trees()
         for name, listed in INTERFACE.items():
-            told = {
-                f"{node.name}({','.join(arg.arg for arg in node.args.args)})"
-                for node in found[name].body if isinstance(node, ast.FunctionDef)
-            }
+            told = {signature(node) for node in found[name].body if isinstance(node, ast.FunctionDef)}
+            self.assertEqual(set(listed.split()) - told, set(), name)
+
+    def test_classes_of_the_interface_define_their_methods(self):
+        found = trees()
+        for (file, name), listed in CLASSES.items():
+            node, = [node for node in found[file].body if isinstance(node, ast.ClassDef) and node.name == name]
+            told = {signature(method) for method in node.body if isinstance(method, ast.FunctionDef)}
             self.assertEqual(set(listed.split()) - told, set(), name)
 
     def test_imports_are_of_the_package_alone(self):
@@ -80,8 +112,8 @@ class Package(unittest.TestCase):
     def test_methods_of_values_are_the_allowed_ones(self):
         for name, tree in trees().items():
             for node in ast.walk(tree):
-                if isinstance(node, ast.Attribute) and isinstance(node.ctx, ast.Load):
-                    self.assertIn(node.attr, METHODS, name)
+                if isinstance(node, ast.Attribute) and isinstance(node.ctx, ast.Load) and node.attr[0] != "_":
+                    self.assertIn(node.attr, METHODS + OWN_METHODS, name)
 
     def test_examples_of_the_readme(self):
         # A fence behind an example would be read as a part of what it tells.
