@@ -97,12 +97,17 @@ DOERS = {
 }
 
 
+def done_once(kind, step, contents):
+    """Return the contents behind a step, None if it fails."""
+    doer = DOERS[kind[0]]
+    return doer(kind, step, contents)
+
+
 def run_row(kind, row, contents):
     """Return the contents ahead of the row and behind each step, up to the first one that fails."""
-    doer = DOERS[kind[0]]
     course = [contents]
     for step in row:
-        behind = doer(kind, step, course[-1])
+        behind = done_once(kind, step, course[-1])
         if behind is None:
             break
         course.append(behind)

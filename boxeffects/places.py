@@ -34,3 +34,32 @@ def met_places(one, other):
         if met.setdefault(place, what) != what:
             return None
     return met
+
+
+def less_places(one, other):
+    """Tell whether of two pairs (expected, written) the other one does all that the first one does."""
+    wanted = dict(one[0])
+    for place, what in other[0]:
+        if place not in wanted or wanted[place] != what:
+            return False
+    # Where neither writes and nothing is expected it stays as it was by both.
+    return known_of(one[0], one[1]) == known_of(one[0], other[1])
+
+
+def has_places_back(expected, written):
+    """Tell whether it is known what lay at each written place."""
+    wanted = dict(expected)
+    return all([place in wanted for place, _ in written])
+
+
+def are_apart(expected, written):
+    """Tell whether no place at which something is expected is written."""
+    wanted = dict(expected)
+    return not any([place in wanted for place, _ in written])
+
+
+def back_places(expected, written):
+    """Return the pair (expected, written) that leads back, if there is one."""
+    wanted = dict(expected)
+    known = known_of(expected, written)
+    return tuple(sorted(known.items())), tuple([(place, wanted[place]) for place, _ in written])

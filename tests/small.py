@@ -2,6 +2,8 @@
 
 from itertools import combinations_with_replacement, product
 
+from boxeffects.forms import form_of
+
 
 class Everything:
     """An object that says of itself that it equals whatever it is compared with."""
@@ -86,6 +88,11 @@ WRONG_KINDS = (None, "stack", [], ["stack"], ("stack", 1), ("ring", 13, "drop"),
 def small_rows(kind, most):
     """All rows of the kind of up to so many of a few steps."""
     return rows(KIND_STEPS[kind[0]], most)
+
+
+def forms_of_rows(kind, most):
+    """The forms of all rows of the kind of up to so many of a few steps, each once."""
+    return list({form_of(kind, row): row for row in small_rows(kind, most)})
 
 
 def raised(call, *given, **named):

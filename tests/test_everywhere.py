@@ -4,7 +4,8 @@ import copy
 import unittest
 
 from boxeffects import (
-    boxes, forms, gauges, heaps, kinds, queuepowers, queues, rings, several, stacks, tables, tapes,
+    boxes, comparing, forms, gauges, heaps, kinds, powers, queuepowers, queues, registers, rings, several, signs,
+    stacks, tables, tapes,
 )
 from small import raised
 
@@ -28,6 +29,10 @@ BOXES = several.Boxes(PAIRS)
 MIXED = (("g", ("add", 5)), ("s", ("push", "a")), ("g", ("add", 5)))
 OTHER = (("s", ("push", "a")), ("g", ("add", 5)), ("g", ("add", 5)))
 MIXED_FORM = (((), ("a",)), (0, 5, 4))
+GROWING = (("a",), ("a", "b"))
+DESK = ((("q", ("queue",)), ("s", STACK)), ("r",))
+MOVED = (("s", ("draw", "r")), ("is", "r", "a"), ("q", ("lay", "r")))
+LOAD = (((), ("a", "b")), ("k",))
 
 # Each function, with arguments by name, in the order of the interface.
 CALLS = (
@@ -150,8 +155,37 @@ CALLS = (
     (several.leads_by, {"boxes": BOXES, "one": MIXED, "other": OTHER, "value": [0]}),
     (several.orderly_row, {"boxes": BOXES, "row": MIXED}),
     (several.how_many_orders, {"boxes": BOXES, "row": MIXED}),
+    (comparing.is_less, {"kind": STACK, "one": (("a",), ("a",)), "other": ((), ())}),
+    (comparing.are_comparable, {"kind": STACK, "one": (("a",), ("a",)), "other": ((), ())}),
+    (comparing.has_back, {"kind": STACK, "form": GROWING}),
+    (comparing.back_of, {"kind": STACK, "form": GROWING}),
+    (comparing.shortest_row, {"kind": STACK, "form": GROWING}),
+    (comparing.shortest_steps, {"kind": STACK, "form": GROWING}),
+    (comparing.is_shortest, {"kind": STACK, "row": PUSH}),
+    (powers.power_of, {"kind": STACK, "form": GROWING, "n": 3}),
+    (powers.is_power_nowhere, {"kind": STACK, "form": GROWING, "n": 3}),
+    (powers.repeats_at, {"kind": STOP, "form": (2, 2, 6)}),
+    (powers.lasting, {"kind": STACK, "form": (("a",), ()), "contents": ("a", "a")}),
+    (powers.works_behind, {"kind": STACK, "form": GROWING, "n": 3, "contents": ("a",)}),
+    (powers.size_behind, {"kind": STACK, "form": GROWING, "n": 3, "contents": ("a",)}),
+    (powers.letter_behind, {"kind": STACK, "form": GROWING, "n": 3, "contents": ("a",), "place": 2}),
+    (powers.left_behind, {"kind": STACK, "form": GROWING, "n": 3, "contents": ("a",)}),
+    (registers.is_desk, {"value": DESK}),
+    (registers.is_load, {"desk": DESK, "value": LOAD}),
+    (registers.is_moved_step, {"desk": DESK, "value": MOVED[0]}),
+    (registers.is_moved_row, {"desk": DESK, "value": MOVED}),
+    (registers.load_left, {"desk": DESK, "row": MOVED, "load": LOAD}),
+    (registers.failing_moved, {"desk": DESK, "row": MOVED + (("is", "r", "b"),), "load": LOAD}),
+    (registers.loads_along, {"desk": DESK, "row": MOVED, "load": LOAD}),
+    (registers.met_boxes, {"desk": DESK, "row": MOVED}),
+    (registers.met_registers, {"desk": DESK, "row": MOVED}),
+    (registers.first_read, {"desk": DESK, "row": MOVED}),
+    (signs.depths_of, {"desk": DESK, "row": MOVED}),
+    (signs.classes_at, {"desk": DESK, "depths": (2, 1)}),
+    (signs.class_of, {"desk": DESK, "depths": (2, 1), "load": LOAD}),
+    (signs.signs_of, {"desk": DESK, "row": MOVED, "depths": (2, 1), "cls": (2, 0)}),
 )
-TRUTHS = ("is_", "shows_", "accepts_", "bears_", "has_", "can_", "leads_", "same_", "works_")
+TRUTHS = ("is_", "shows_", "accepts_", "bears_", "has_", "can_", "leads_", "same_", "works_", "are_")
 TRUTHS_TOO = ("_works", "_alike", "_agree")
 # Of these it is told where in the list a value is wrong, None if it is no list at all.
 LISTS = ("letters", "forms", "pairs")

@@ -43,13 +43,22 @@ INTERFACE = {
                "mixed_alike(boxes,one,other) parting_box(boxes,one,other) same_but_order(boxes,one,other) "
                "least_exchanges(boxes,one,other) told_exchanges(boxes,one,other) leads_by(boxes,one,other,value) "
                "orderly_row(boxes,row) how_many_orders(boxes,row)",
+    "comparing": "is_less(kind,one,other) are_comparable(kind,one,other) has_back(kind,form) back_of(kind,form) "
+                 "shortest_row(kind,form) shortest_steps(kind,form) is_shortest(kind,row)",
+    "powers": "power_of(kind,form,n) is_power_nowhere(kind,form,n) repeats_at(kind,form) lasting(kind,form,contents) "
+              "works_behind(kind,form,n,contents) size_behind(kind,form,n,contents) "
+              "letter_behind(kind,form,n,contents,place) left_behind(kind,form,n,contents)",
+    "registers": "is_desk(value) is_load(desk,value) is_moved_step(desk,value) is_moved_row(desk,value) "
+                 "load_left(desk,row,load) failing_moved(desk,row,load) loads_along(desk,row,load) "
+                 "met_boxes(desk,row) met_registers(desk,row) first_read(desk,row)",
+    "signs": "depths_of(desk,row) classes_at(desk,depths) class_of(desk,depths,load) signs_of(desk,row,depths,cls)",
 }
 # The methods of each class of the interface, each defined in the class itself.
 CLASSES = {
     ("several", "Boxes"): "__init__(self,pairs) names(self) kind_of(self,name) has_step(self,value) __eq__(self,other)",
 }
 METHODS = (
-    "append clear copy count endswith extend find get index insert items join keys pop remove setdefault sort "
+    "add append clear copy count endswith extend find get index insert items join keys pop remove setdefault "
     "startswith update values"
 ).split()
 
