@@ -209,23 +209,25 @@ def lasting(kind, form, contents):
     return lasts_on(kind, form, contents)
 
 
-def bears_times(kind, form, n, contents):
-    """Tell whether the power works, of what are known to be a form, a number of times and a contents."""
-    lasts = lasts_on(kind, form, contents)
-    return lasts is None or n <= lasts
-
-
 def works_behind(kind, form, n, contents):
     """Tell whether the power works on the contents."""
     need_power_form(kind, form, n)
     need_contents(kind, contents)
-    return bears_times(kind, form, n, contents)
+    lasts = lasts_on(kind, form, contents)
+    return lasts is None or n <= lasts
 
 
 def ring_behind(kind, form, n, contents):
     """Return what the power of a ring's form leaves where it works."""
     kept, word = power_by_squares(kind, form, n)[len(contents)]
     return contents[len(contents) - kept:] + word
+
+
+def queue_behind(form, n, contents):
+    """Return what the power of a queue's form leaves where it works."""
+    many = length_left(form, n, contents)
+    need_size(many)
+    return letters_left(form, n, contents, 0, many)
 
 
 def gauge_behind(kind, form, n, contents):
@@ -294,10 +296,3 @@ def left_behind(kind, form, n, contents):
     left = left_in_table(form, contents)
     need_size(len(left))
     return left
-
-
-def queue_behind(form, n, contents):
-    """Return what the power of a queue's form leaves where it works."""
-    many = length_left(form, n, contents)
-    need_size(many)
-    return letters_left(form, n, contents, 0, many)

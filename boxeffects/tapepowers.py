@@ -77,12 +77,8 @@ def ranges_to(chain, times):
     return [(begin, link[0] + times) for begin, link in zip(begins, chain)]
 
 
-def tape_power(form, times):
-    """Return the power of a form that is not nowhere so many times."""
-    s = form[0]
-    if s == 0 or times == 1:
-        return form
-    chains = chains_of(form)
+def need_power_size(chains, times):
+    """Raise TooMany if the power expects, or writes without expecting, more letters than let."""
     asked = written = 0
     for chain in chains.values():
         for link, many in zip(chain, ranges_from(chain, times)):
@@ -90,8 +86,17 @@ def tape_power(form, times):
                 written += many
             else:
                 asked += many
-    # What is expected first may be written, or not; it is told below.
     need_size(max(asked, written))
+
+
+def tape_power(form, times):
+    """Return the power of a form that is not nowhere so many times."""
+    s = form[0]
+    if s == 0 or times == 1:
+        return form
+    chains = chains_of(form)
+    # Ahead of writing out what may be far too long.
+    need_power_size(chains, times)
     first = {}
     last = {}
     for offset, chain in chains.items():
