@@ -34,7 +34,8 @@ MORE_FORMS = {
     "tape": ((1, ((0, "a"), (1, "b")), ((0, "b"),)), (1, ((0, "a"),), ((1, "a"),)), (2, ((0, "a"),), ((4, "b"),)),
              (-1, ((0, "a"), (3, "b")), ((0, "b"), (2, "b"))), (2, ((0, "b"), (1, "a")), ((2, "b"), (3, "b"))),
              (-3, ((-3, "a"),), ((-4, "b"), (0, "a"))), (0, ((0, "a"),), ((0, "b"), (1, "a"))), (3, (), ((0, "a"), (3, "b"))),
-             (1, ((0, "b"), (2, "b")), ((0, "a"), (2, "a"))), (0, ((0, "a"),), ((1, "b"),)), (1, ((0, "a"), (1, "a")), ())),
+             (1, ((0, "b"), (2, "b")), ((0, "a"), (2, "a"))), (1, ((2, "a"),), ((4, "b"),)),
+             (-2, ((3, "a"),), ((-1, "b"),)), (0, ((0, "a"),), ((1, "b"),)), (1, ((0, "a"), (1, "a")), ())),
     "heap": ((3, ((None, -3, 0), (0, -1, 1), (2, 1, 2))), (1, ((None, -2, 0), (0, 1, 2))), (0, ((None, -2, 0), (1, 0, 0))),
              (2, ((None, -2, 0),))),
     "table": (((("m", "x"),), (("m", None),)), ((("m", "x"),), (("n", None),)), ((("m", None),), ())),
@@ -164,6 +165,8 @@ class Powers(unittest.TestCase):
         self.assertIsNone(repeats_at(TAPE, (1, ((0, "a"),), ((5, "a"),))))
         self.assertEqual(repeats_at(TAPE, (1, ((0, "a"),), ((5, "b"),))), (6, 1))
         self.assertEqual(repeats_at(TAPE, (2, ((0, "a"),), ((5, "b"), (6, "b")))), (4, 1))
+        self.assertEqual(repeats_at(TAPE, (1, ((2, "a"),), ((4, "b"),))), (3, 1))
+        self.assertEqual(repeats_at(TAPE, (-1, ((2, "a"),), ((-1, "b"),))), (4, 1))
         self.assertEqual(repeats_at(TAPE, (-1, ((0, "a"),), ((-10 ** 20, "b"),))), (10 ** 20 + 1, 1))
         self.assertIsNone(repeats_at(TAPE, (-1, ((0, "a"),), ((5, "b"),))))
         self.assertIsNone(repeats_at(HEAP, (0, ((None, -1, 0), (3, 0, 0)))))
@@ -195,6 +198,9 @@ class Powers(unittest.TestCase):
             for n in (4001, GREAT):
                 self.assertEqual(raised(power_of, kind, form, n), TOO_MANY)
                 self.assertIs(is_power_nowhere(kind, form, n), False)
+        # What is expected and what is written is counted one by one.
+        form = power_of(TAPE, (2, ((0, "a"),), ((1, "b"),)), 4000)
+        self.assertEqual((len(form[1]), len(form[2])), (4000, 4000))
         # A form that is nowhere is none that would be too long.
         self.assertIsNone(power_of(STACK, (("a",) * 4000, ("b",) * 4000), 2))
         # What is written as it was expected takes no room.
@@ -275,6 +281,11 @@ class Lasting(unittest.TestCase):
         self.assertEqual(lasting(FAIL, (0, 2, 7), 0), 4)
         self.assertEqual(lasting(FAIL, (2, -2, 9), 9), 4)
         self.assertEqual(lasting(TAPE, (1, ((0, "a"),), ()), (tuple((at, "a") for at in range(4000)), "b")), 4000)
+        # What lies where it writes, ahead of coming there to ask, does not count.
+        self.assertIsNone(lasting(TAPE, (1, ((0, "a"),), ((5, "a"),)), (((5, "c"),), "a")))
+        self.assertEqual(lasting(TAPE, (1, ((0, "a"),), ((5, "a"),)), (((4, "c"), (5, "c")), "a")), 4)
+        self.assertIsNone(lasting(TAPE, (1, ((0, "a"),), ((2, "a"),)), (((0, "a"), (1, "a")), "b")))
+        self.assertEqual(lasting(TAPE, (1, ((0, "a"),), ((2, "a"),)), (((0, "a"), (2, "a")), "b")), 1)
         self.assertEqual(lasting(TABLE, ((("m", None),), (("m", "x"),)), ()), 1)
         for kind in ALL_KINDS:
             if is_form(kind, None):

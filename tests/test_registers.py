@@ -16,7 +16,7 @@ from boxeffects.registers import (
     met_boxes,
     met_registers,
 )
-from small import ODD, TOO_MANY, raised, rows
+from small import ODD, TOO_MANY, Everything, raised, rows
 
 STACK, QUEUE, TAPE = ("stack",), ("queue",), ("tape",)
 DROP, FAIL = ("ring", 2, "drop"), ("ring", 2, "fail")
@@ -56,7 +56,8 @@ WRONG_STEPS = (
     ("q", ("look", "a")), ("a", ("lay", "c")), ("a", ("lay", None)), ("a", ("lay", "a", "b")), ("q", ("push", "x")),
     ("q", ("take",)), ("t", ("left", "a")), ("t", None), ("a", "push"), (["a"], ("push", "x")), (("a",), ("push", "x")),
     ("a", (None, "a")), ("a", ("copy", "a")), (1, ("push", "x")), ("a", ("push", True)), ("copy", ["a"], "b"),
-    (["copy"], "a", "b"), ("a", ()),
+    (["copy"], "a", "b"), ("a", ()), ("a", (Everything(), "a")), (Everything(), "a", "b"), (Everything(), ("push", "x")),
+    ("same", Everything(), "a"), ("is", "a", Everything()),
 )
 
 

@@ -207,6 +207,10 @@ class ToldRows(unittest.TestCase):
         form = (entries(0, 30, None), entries(0, 30, "x"))
         self.assertEqual(table_form(table_row(form)), form)
         self.assertEqual(raised(table_row, (entries(0, 30, None), entries(0, 31, "x"))), ("TooMany", 60))
+        for many in (0, 9, 60):
+            told = table_row((entries(0, many, None), entries(0, 60 - many, "x")))
+            self.assertEqual([step[0] for step in told], ["absent"] * many + ["set"] * (60 - many))
+            self.assertEqual(raised(table_row, (entries(0, many, None), entries(0, 61 - many, "x"))), ("TooMany", 60))
 
     def test_errors(self):
         for wrong in (*WRONG_FORMS, None):
