@@ -107,6 +107,11 @@ def gauge_works(kind, form, contents):
     """Tell whether the form works on the contents."""
     need_gauge_form(kind, form)
     need_contents(kind, contents)
+    return gauge_bears(kind, form, contents)
+
+
+def gauge_bears(kind, form, contents):
+    """Tell the same of what are known to be a form and contents."""
     if kind[2] == "stop":
         return True
     return form is not None and form[0] <= contents <= form[2]
@@ -114,8 +119,11 @@ def gauge_works(kind, form, contents):
 
 def gauge_left(kind, form, contents):
     """Return what the form leaves of the contents, None where it does not work."""
-    if not gauge_works(kind, form, contents):
-        return None
+    return behind_gauge(kind, form, contents) if gauge_works(kind, form, contents) else None
+
+
+def behind_gauge(kind, form, contents):
+    """Return what the form leaves of contents on which it works."""
     return stopped(form, contents) if kind[2] == "stop" else contents + form[1]
 
 

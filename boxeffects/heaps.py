@@ -135,18 +135,26 @@ def heap_works(form, contents):
     return works_on_many(form, len(contents))
 
 
-def rises_of(form, contents):
-    """Return the list of (number, n, s, b) for each number at which n, s or b rises.
+def totals_of(contents):
+    """Return the list of the pairs (number, n) of the numbers of contents, n of which are at most this number."""
+    totals = []
+    for many, number in enumerate(contents, start=1):
+        if totals and totals[-1][0] == number:
+            totals.pop()
+        totals.append((number, many))
+    return totals
 
-    n is how many numbers of the contents are at most this number.
-    """
+
+def rises_of(form, totals):
+    """Return the list of (number, n, s, b) for each number at which n, s or b rises, of contents with such totals."""
     corners = form[1]
-    points = sorted(set(list(contents) + numbers_of(corners)))
+    points = sorted(set([number for number, _ in totals] + numbers_of(corners)))
     rises = []
-    many = 0
+    at = many = 0
     for number, triple in zip(points, triples_at(corners, points)):
-        while many < len(contents) and contents[many] <= number:
-            many += 1
+        if at < len(totals) and totals[at][0] == number:
+            many = totals[at][1]
+            at += 1
         rises.append((number, many, triple[1], triple[2]))
     return rises
 
@@ -159,9 +167,9 @@ def rising_numbers(totals):
     return tuple(numbers)
 
 
-def left_totals(form, contents):
-    """Return the pairs (number, how many are left that are at most this number)."""
-    return [(number, max(n + s, b)) for number, n, s, b in rises_of(form, contents)]
+def left_totals(form, totals):
+    """Return the pairs (number, how many are left that are at most this number), of contents with such totals."""
+    return [(number, max(n + s, b)) for number, n, s, b in rises_of(form, totals)]
 
 
 def heap_left(form, contents):
@@ -169,7 +177,7 @@ def heap_left(form, contents):
     if not heap_works(form, contents):
         return None
     need_size(len(contents) + shift_of(form))
-    return rising_numbers(left_totals(form, contents))
+    return rising_numbers(left_totals(form, totals_of(contents)))
 
 
 def left_many(form, contents):
@@ -183,7 +191,7 @@ def left_kth(form, contents, place):
     need_natural(place)
     if not works_on_many(form, len(contents)):
         return None
-    for number, total in left_totals(form, contents):
+    for number, total in left_totals(form, totals_of(contents)):
         if total > place:
             return number
     return None
@@ -195,7 +203,8 @@ def taken_by(form, contents):
         return None
     leasts = leasts_of(form)
     need_size(leasts)
-    return rising_numbers([(number, n + s + leasts - max(n + s, b)) for number, n, s, b in rises_of(form, contents)])
+    rises = rises_of(form, totals_of(contents))
+    return rising_numbers([(number, n + s + leasts - max(n + s, b)) for number, n, s, b in rises])
 
 
 def count_behind(form, t, many):

@@ -9,6 +9,10 @@ ALPHABET = "abcdefghijklmnopqrstuvwxyz"
 # Of each kind with a capacity: the greatest one, and the modes.
 SIZED_KINDS = {"ring": (12, ("drop", "ignore", "fail")), "gauge": (999, ("stop", "fail"))}
 PLAIN_KINDS = ("stack", "queue", "tape", "heap", "table")
+# Kinds whose steps are those of all kinds.
+ANY_KINDS = (
+    ("stack",), ("queue",), ("ring", 1, "drop"), ("tape",), ("heap",), ("gauge", 999, "stop"), ("table",),
+)
 
 # What stands behind the first word of each step of a kind.
 STEP_PARTS = {

@@ -12,7 +12,7 @@ from boxeffects.queuepowers import (
     least_of_power,
     length_left,
     letters_left,
-    most_times,
+    queue_lasts,
 )
 from boxeffects.stackpowers import (
     further_words,
@@ -23,7 +23,7 @@ from boxeffects.stackpowers import (
     stack_power,
     stack_size,
 )
-from boxeffects.tables import left_in_table, table_works
+from boxeffects.tables import behind_table, table_bears
 from boxeffects.tapepowers import tape_behind, tape_lasts, tape_letter, tape_nowhere_from, tape_power
 
 LETTER_KINDS = ("stack", "queue", "ring", "tape")
@@ -63,8 +63,11 @@ def heap_power(form, n):
 def power_of(kind, form, n):
     """Return the form of doing the form so many times, None if this is nowhere."""
     need_power_form(kind, form, n)
-    if is_nowhere(kind, form, n):
-        return None
+    return None if is_nowhere(kind, form, n) else made_power(kind, form, n)
+
+
+def made_power(kind, form, n):
+    """Return the power of what are known to be a form and a number of times, if it is not nowhere."""
     name = kind[0]
     if n == 1 or name == "table":
         return form
@@ -188,7 +191,7 @@ def lasts_on(kind, form, contents):
     if name == "stack":
         return stack_lasts(form, contents)
     if name == "queue":
-        return most_times(form, contents)
+        return queue_lasts(form, contents)
     if name == "ring":
         return lengths_last(form, len(contents))
     if name == "tape":
@@ -197,7 +200,7 @@ def lasts_on(kind, form, contents):
         return heap_lasts(form, len(contents))
     if name == "gauge":
         return gauge_lasts(kind, form, contents)
-    if not table_works(form, contents):
+    if not table_bears(form, contents):
         return 0
     return None if nowhere_from(kind, form) is None else 1
 
@@ -252,7 +255,7 @@ def size_behind(kind, form, n, contents):
         return len(contents) + shift_of(form) * n
     if name == "gauge":
         return gauge_behind(kind, form, n, contents)
-    return len(left_in_table(form, contents))
+    return len(behind_table(form, contents))
 
 
 def letter_behind(kind, form, n, contents, place):
@@ -293,6 +296,6 @@ def left_behind(kind, form, n, contents):
         return heap_left(heap_power(form, n), contents)
     if name == "gauge":
         return gauge_behind(kind, form, n, contents)
-    left = left_in_table(form, contents)
+    left = behind_table(form, contents)
     need_size(len(left))
     return left

@@ -148,6 +148,11 @@ def most_times(form, contents):
     """Return how many times the contents are borne at most, None if without end."""
     need_queue_form(form)
     need_contents(QUEUE, contents)
+    return queue_lasts(form, contents)
+
+
+def queue_lasts(form, contents):
+    """Return the same of contents of any size."""
     u, v, d = form
     if not u:
         return None

@@ -96,6 +96,11 @@ def queue_works(form, contents):
     """Tell whether the form works on the contents."""
     need_queue_form(form)
     need_contents(QUEUE, contents)
+    return queue_bears(form, contents)
+
+
+def queue_bears(form, contents):
+    """Tell the same of contents of any size."""
     u, v, d = form
     return len(contents) >= d and (contents + v)[:len(u)] == u
 
@@ -104,10 +109,15 @@ def queue_left(form, contents):
     """Return what the form leaves of the contents, None where it does not work."""
     if not queue_works(form, contents):
         return None
-    u, v, _ = form
-    left = (contents + v)[len(u):]
+    left = behind_queue(form, contents)
     need_size(len(left))
     return left
+
+
+def behind_queue(form, contents):
+    """Return what the form leaves of contents, of any size, on which it works."""
+    u, v, _ = form
+    return (contents + v)[len(u):]
 
 
 def queue_shorts(form):

@@ -113,6 +113,11 @@ def ring_works(kind, form, contents):
     """Tell whether the form works on the contents."""
     need_ring_form(kind, form)
     need_contents(kind, contents)
+    return ring_bears(form, contents)
+
+
+def ring_bears(form, contents):
+    """Tell the same of what are known to be a form and contents."""
     return form is not None and form[len(contents)] is not None
 
 
@@ -120,6 +125,11 @@ def ring_left(kind, form, contents):
     """Return what the form leaves of the contents, None where it does not work."""
     if not ring_works(kind, form, contents):
         return None
+    return behind_ring(form, contents)
+
+
+def behind_ring(form, contents):
+    """Return what the form leaves of contents on which it works."""
     kept, word = form[len(contents)]
     return contents[len(contents) - kept:] + word
 

@@ -3,7 +3,7 @@
 from boxeffects.boxes import run_row
 from boxeffects.checks import need_size
 from boxeffects.errors import NoBox, NoBoxes, NoContents, NoForm, NoRow, TooMany
-from boxeffects.forms import both_forms, form_of, is_form, left_by, works_on
+from boxeffects.forms import both_forms, empty_form, form_of, is_form, left_by, works_on
 from boxeffects.kinds import (
     MOST_SIZE,
     MOST_STEPS,
@@ -72,17 +72,30 @@ def kinds_of(boxes):
 def need_mixed_row(boxes, row):
     """Raise NoBoxes for no boxes, then NoRow for no mixed row of them."""
     kinds_of(boxes)
-    if not isinstance(row, tuple) or len(row) > MOST_STEPS or not all([boxes.has_step(step) for step in row]):
+    if not fits_mixed_row(boxes, row):
         raise NoRow(row)
+
+
+def fits_mixed_row(boxes, value):
+    """Tell whether any value is a mixed row of the boxes."""
+    if not isinstance(value, tuple) or len(value) > MOST_STEPS:
+        return False
+    return all([boxes.has_step(step) for step in value])
 
 
 def need_all_contents(boxes, contents):
     """Raise NoBoxes for no boxes, then NoContents for no contents of all of them."""
+    kinds_of(boxes)
+    if not fits_all_contents(boxes, contents):
+        raise NoContents(contents)
+
+
+def fits_all_contents(boxes, value):
+    """Tell whether any value is all contents of the boxes."""
     kinds = kinds_of(boxes)
-    if not isinstance(contents, tuple) or len(contents) != len(kinds):
-        raise NoContents(contents)
-    if not all([is_contents(kind, part) for kind, part in zip(kinds, contents)]):
-        raise NoContents(contents)
+    if not isinstance(value, tuple) or len(value) != len(kinds):
+        return False
+    return all([is_contents(kind, part) for kind, part in zip(kinds, value)])
 
 
 def places_of(row, name):
@@ -172,14 +185,20 @@ def joined_mixed(boxes, one, other):
     """Return the mixed form that one form and then another one make."""
     need_mixed_form(boxes, one)
     need_mixed_form(boxes, other)
+    return both_mixed(kinds_of(boxes), one, other)
+
+
+def both_mixed(kinds, one, other):
+    """Return the same of what are known to be forms of boxes of these kinds."""
     if one is None or other is None:
         return None
     made = []
     too_long = False
-    for kind, first, second in zip(kinds_of(boxes), one, other):
+    for kind, first, second in zip(kinds, one, other):
         # One box that is nowhere makes all of it None, also where another one's form is too long.
         try:
-            made.append(both_forms(kind, first, second))
+            # Most steps do nothing to most boxes, and with long forms it takes long to find this out.
+            made.append(first if second == empty_form(kind) else both_forms(kind, first, second))
         except TooMany:
             too_long = True
     if too_long and told_mixed(made) is not None:

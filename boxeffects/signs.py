@@ -74,14 +74,28 @@ def classes_at(desk, depths):
     """Return the list of all classes at the depths, ascending."""
     need_desk(desk)
     need_depths(desk, depths)
-    bounds = class_bounds(desk, depths)
+    need_few_classes(desk, depths)
+    return all_classes(desk, depths)
+
+
+def how_many_classes(desk, depths):
+    """Return how many classes there are at what are known to be depths."""
     many = 1
-    for bound in bounds:
+    for bound in class_bounds(desk, depths):
         many = many * (bound + 1)
-    if many > MOST_CLASSES:
+    return many
+
+
+def need_few_classes(desk, depths):
+    """Raise TooMany if there are more classes than are told."""
+    if how_many_classes(desk, depths) > MOST_CLASSES:
         raise TooMany(MOST_CLASSES)
+
+
+def all_classes(desk, depths):
+    """Return the list of all classes, however many, at what are known to be depths, ascending."""
     classes = [()]
-    for bound in bounds:
+    for bound in class_bounds(desk, depths):
         classes = [cls + (number,) for cls in classes for number in range(bound + 1)]
     return classes
 
@@ -91,6 +105,11 @@ def class_of(desk, depths, load):
     need_desk(desk)
     need_depths(desk, depths)
     need_load(desk, load)
+    return class_in(desk, depths, load)
+
+
+def class_in(desk, depths, load):
+    """Return the class of what are known to be depths and a load of any size."""
     numbers = []
     for (_, kind), part, bound in zip(desk[0], load[0], class_bounds(desk, depths)):
         numbers.append(0 if kind[0] == "tape" else min(len(part), bound))
@@ -140,6 +159,11 @@ def signs_of(desk, row, depths, cls):
     need_moved_row(desk, row)
     need_enough(desk, row, depths)
     need_class(desk, depths, cls)
+    return signs_in_class(desk, row, cls)
+
+
+def signs_in_class(desk, row, cls):
+    """Return the same of what are known to be a row and a class."""
     signs = [(name,) for name in desk[1]]
     done = done_outright(desk, row, cls)
     for (name, kind), number in zip(desk[0], cls):

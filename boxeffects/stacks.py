@@ -66,6 +66,11 @@ def stack_works(form, contents):
     """Tell whether the form works on the contents."""
     need_stack_form(form)
     need_contents(STACK, contents)
+    return stack_bears(form, contents)
+
+
+def stack_bears(form, contents):
+    """Tell the same of contents of any size."""
     return form is not None and begins_with(contents, form[0])
 
 
@@ -73,10 +78,15 @@ def stack_left(form, contents):
     """Return what the form leaves of the contents, None where it does not work."""
     if not stack_works(form, contents):
         return None
-    u, v = form
-    left = v + contents[len(u):]
+    left = behind_stack(form, contents)
     need_size(len(left))
     return left
+
+
+def behind_stack(form, contents):
+    """Return what the form leaves of contents, of any size, on which it works."""
+    u, v = form
+    return v + contents[len(u):]
 
 
 def stack_partners(row):

@@ -110,6 +110,11 @@ def table_works(form, contents):
     """Tell whether the form works on the contents."""
     need_table_form(form)
     need_contents(TABLE, contents)
+    return table_bears(form, contents)
+
+
+def table_bears(form, contents):
+    """Tell the same of contents of any size."""
     if form is None:
         return False
     letters = dict(contents)
@@ -120,13 +125,13 @@ def table_left(form, contents):
     """Return what the form leaves of the contents, None where it does not work."""
     if not table_works(form, contents):
         return None
-    left = left_in_table(form, contents)
+    left = behind_table(form, contents)
     need_size(len(left))
     return left
 
 
-def left_in_table(form, contents):
-    """Return what a form leaves of contents on which it works, however many pairs there are."""
+def behind_table(form, contents):
+    """Return what the form leaves of contents, of any size, on which it works."""
     letters = dict(contents)
     letters.update(dict(form[1]))
     return tuple(sorted([(name, letters[name]) for name in letters if letters[name] is not None]))

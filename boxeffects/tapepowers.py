@@ -9,7 +9,7 @@ from boxeffects.boxes import told_tape
 from boxeffects.checks import need_size
 from boxeffects.kinds import under_head
 from boxeffects.places import are_apart, known_of
-from boxeffects.tapes import tape_works
+from boxeffects.tapes import tape_bears
 
 
 def stride_of(form):
@@ -164,7 +164,7 @@ def fails_of(form, contents):
 
 def tape_lasts(form, contents):
     """Return how many times the form can be done on the contents, None if for ever."""
-    if not tape_works(form, contents):
+    if not tape_bears(form, contents):
         return 0
     if form[0] == 0:
         return None if tape_nowhere_from(form) is None else 1

@@ -74,6 +74,11 @@ def tape_works(form, contents):
     """Tell whether the form works on the contents."""
     need_tape_form(form)
     need_contents(TAPE, contents)
+    return tape_bears(form, contents)
+
+
+def tape_bears(form, contents):
+    """Tell the same of contents of any size."""
     if form is None:
         return False
     pairs, rest = contents
@@ -85,13 +90,18 @@ def tape_left(form, contents):
     """Return what the form leaves of the contents, None where it does not work."""
     if not tape_works(form, contents):
         return None
+    left = behind_tape(form, contents)
+    need_size(len(left[0]))
+    return left
+
+
+def behind_tape(form, contents):
+    """Return what the form leaves of contents, of any size, on which it works."""
     s, _, written = form
     pairs, rest = contents
     letters = dict(pairs)
     letters.update(dict(written))
-    left = told_tape({place - s: letters[place] for place in letters}, rest)
-    need_size(len(left[0]))
-    return left
+    return told_tape({place - s: letters[place] for place in letters}, rest)
 
 
 def tape_known(form):

@@ -4,8 +4,8 @@ import copy
 import unittest
 
 from boxeffects import (
-    boxes, comparing, forms, gauges, heaps, kinds, powers, queuepowers, queues, registers, rings, several, signs,
-    stacks, tables, tapes,
+    bench, boxes, classes, comparing, console, forms, gauges, heaps, kinds, movedforms, movedparting, parting, powers,
+    programs, queuepowers, queues, registers, rings, several, signs, stacks, tables, tapes, texts, whereabouts,
 )
 from small import raised
 
@@ -33,6 +33,28 @@ GROWING = (("a",), ("a", "b"))
 DESK = ((("q", ("queue",)), ("s", STACK)), ("r",))
 MOVED = (("s", ("draw", "r")), ("is", "r", "a"), ("q", ("lay", "r")))
 LOAD = (((), ("a", "b")), ("k",))
+DEPTHS, CLS = (0, 1), (0, 1)
+MOVED_FORM = classes.form_in(DESK, MOVED, DEPTHS, CLS)
+TABLE = movedforms.table_of(DESK, MOVED, DEPTHS)
+DRAWN = (("s", ("draw", "r")),)
+LEFT = ((("a",), ("b",)), ("a",))
+PARTS = (("p", (("do", "s", ("push", "a")), ("do", "g", ("add", 1)))), ("main", (("repeat", 3, "p"), ("call", "p"))))
+PROGRAM = programs.Program(BOXES, PARTS)
+OTHER_PROGRAM = programs.Program(BOXES, PARTS[:1])
+TEXT = "kind stack\nrow\npush a"
+
+
+def a_bench():
+    """A bench on which a row was done twice, and a third one taken back."""
+    made = bench.Bench(BOXES, ((), 0))
+    made.do(MIXED[1:])
+    made.repeat(MIXED[1:2], 2)
+    made.do(MIXED[1:2])
+    made.undo()
+    return made
+
+
+BENCH = a_bench()
 
 # Each function, with arguments by name, in the order of the interface.
 CALLS = (
@@ -184,11 +206,85 @@ CALLS = (
     (signs.classes_at, {"desk": DESK, "depths": (2, 1)}),
     (signs.class_of, {"desk": DESK, "depths": (2, 1), "load": LOAD}),
     (signs.signs_of, {"desk": DESK, "row": MOVED, "depths": (2, 1), "cls": (2, 0)}),
+    (classes.form_in, {"desk": DESK, "row": MOVED, "depths": DEPTHS, "cls": CLS}),
+    (classes.is_moved_form, {"desk": DESK, "depths": DEPTHS, "cls": CLS, "value": MOVED_FORM}),
+    (classes.moved_works, {"desk": DESK, "depths": DEPTHS, "cls": CLS, "form": MOVED_FORM, "load": LOAD}),
+    (classes.moved_left, {"desk": DESK, "depths": DEPTHS, "cls": CLS, "form": MOVED_FORM, "load": LOAD}),
+    (classes.told_load, {"desk": DESK, "depths": DEPTHS, "cls": CLS, "form": MOVED_FORM}),
+    (movedforms.table_of, {"desk": DESK, "row": MOVED, "depths": DEPTHS}),
+    (movedforms.shared_depths, {"desk": DESK, "one": MOVED, "other": DRAWN}),
+    (movedforms.moved_alike, {"desk": DESK, "one": MOVED, "other": DRAWN}),
+    (movedforms.first_parting_class, {"desk": DESK, "one": MOVED, "other": DRAWN}),
+    (movedforms.moved_less, {"desk": DESK, "one": MOVED, "other": DRAWN}),
+    (movedforms.is_table, {"desk": DESK, "depths": DEPTHS, "value": TABLE}),
+    (movedforms.put_together, {"desk": DESK, "depths": DEPTHS, "table": TABLE, "other_depths": (0, 0),
+                               "other": movedforms.table_of(DESK, (), (0, 0))}),
+    (whereabouts.terms_behind, {"desk": DESK, "row": MOVED, "depths": DEPTHS, "cls": CLS}),
+    (whereabouts.whereabouts, {"desk": DESK, "row": MOVED, "depths": DEPTHS, "cls": CLS}),
+    (whereabouts.lost_parts, {"desk": DESK, "row": MOVED, "depths": DEPTHS, "cls": CLS}),
+    (whereabouts.loses_nothing, {"desk": DESK, "row": MOVED, "depths": DEPTHS, "cls": CLS}),
+    (whereabouts.can_be_left, {"desk": DESK, "row": MOVED, "depths": DEPTHS, "cls": CLS, "load": LEFT}),
+    (whereabouts.load_ahead, {"desk": DESK, "row": MOVED, "depths": DEPTHS, "cls": CLS, "load": LEFT}),
+    (whereabouts.do_meet, {"desk": DESK, "row": (), "depths": DEPTHS, "one": (0, 0), "other": (0, 1)}),
+    (whereabouts.is_one_to_one, {"desk": DESK, "row": MOVED}),
+    (whereabouts.merged_paper, {"desk": DESK, "row": MOVED}),
+    (whereabouts.accepts_merged, {"desk": DESK, "row": MOVED, "value": whereabouts.merged_paper(DESK, MOVED)}),
+    (parting.fresh_letters, {"rows": [PUSH], "many": 2}),
+    (parting.does_part, {"kind": STACK, "one": PUSH[:1], "other": PUSH[:2], "contents": ("a",)}),
+    (parting.trials_for, {"kind": STACK, "one": PUSH[:1], "other": PUSH[:2]}),
+    (parting.told_parting, {"kind": STACK, "one": PUSH[:1], "other": PUSH[:2]}),
+    (parting.part_paper, {"kind": STACK, "one": PUSH[:1], "other": PUSH[:2]}),
+    (parting.accepts_part, {"kind": STACK, "one": PUSH[:1], "other": PUSH[:2], "value": ("parts", (), ("a",), ("b", "a"))}),
+    (parting.told_key, {"kind": STACK, "rows": [PUSH[:1], PUSH[:2]]}),
+    (movedparting.moved_trials, {"desk": DESK, "one": MOVED, "other": DRAWN}),
+    (movedparting.moved_parting, {"desk": DESK, "one": MOVED, "other": DRAWN}),
+    (movedparting.moved_does_part, {"desk": DESK, "one": MOVED, "other": DRAWN, "load": LOAD}),
+    (programs.Program, {"boxes": BOXES, "parts": PARTS}),
+    (programs.Program.from_row, {"boxes": BOXES, "row": MIXED}),
+    (PROGRAM.boxes, {}),
+    (PROGRAM.parts, {}),
+    (PROGRAM.names, {}),
+    (PROGRAM.acts_of, {"name": "p"}),
+    (programs.reached_parts, {"program": PROGRAM}),
+    (programs.length_of, {"program": PROGRAM, "name": "p"}),
+    (programs.step_at, {"program": PROGRAM, "k": 5}),
+    (programs.times_done, {"program": PROGRAM, "step": ("g", ("add", 1))}),
+    (programs.shown_row, {"program": PROGRAM}),
+    (programs.part_form, {"program": PROGRAM, "name": "p"}),
+    (programs.program_form, {"program": PROGRAM}),
+    (programs.form_behind, {"program": PROGRAM, "k": 5}),
+    (programs.does_work, {"program": PROGRAM, "contents": ((), 1)}),
+    (programs.program_left, {"program": PROGRAM, "contents": ((), 1)}),
+    (programs.failing_number, {"program": PROGRAM, "contents": ((), 7)}),
+    (programs.steps_left, {"program": PROGRAM, "k": 5, "contents": ((), 7)}),
+    (programs.programs_alike, {"one": PROGRAM, "other": OTHER_PROGRAM}),
+    (programs.is_program_less, {"one": PROGRAM, "other": OTHER_PROGRAM}),
+    (programs.idle_acts, {"program": PROGRAM}),
+    (texts.is_thing, {"value": ("row", STACK, PUSH)}),
+    (texts.write_text, {"thing": ("row", STACK, PUSH)}),
+    (texts.read_text, {"text": TEXT}),
+    (texts.lines_due, {"text": TEXT}),
+    (bench.Bench, {"boxes": BOXES, "contents": ((), 0)}),
+    (BENCH.boxes, {}),
+    (BENCH.now, {}),
+    (BENCH.deeds, {}),
+    (BENCH.was, {"moment": 1}),
+    (BENCH.form_between, {"one": 0, "other": 1}),
+    (BENCH.twin, {}),
+    (console.Console().run, {"line": "fits"}),
 )
-TRUTHS = ("is_", "shows_", "accepts_", "bears_", "has_", "can_", "leads_", "same_", "works_", "are_")
-TRUTHS_TOO = ("_works", "_alike", "_agree")
-# Of these it is told where in the list a value is wrong, None if it is no list at all.
-LISTS = ("letters", "forms", "pairs")
+TRUTHS = ("is_", "shows_", "accepts_", "bears_", "has_", "can_", "leads_", "same_", "works_", "are_", "does_", "do_", "loses_")
+TRUTHS_TOO = ("_works", "_alike", "_agree", "_less", "_does_part")
+# Of these it is told where in the list a value is wrong, None if it is no list or text at all.
+LISTS = ("letters", "forms", "pairs", "rows", "parts", "text")
+# Each method that changes something, with arguments by name, and how many deeds there are behind it.
+DOING = (
+    ("do", {"row": MIXED[1:2]}, 3),
+    ("repeat", {"row": MIXED[1:2], "times": 2}, 3),
+    ("undo", {}, 1),
+    ("redo", {}, 3),
+    ("undo_of", {"name": "s"}, 1),
+)
 
 
 class Calls(unittest.TestCase):
@@ -244,6 +340,62 @@ class Calls(unittest.TestCase):
         wanted.append((2, "c"))
         self.assertEqual(told, ((1, "b"),))
         self.assertEqual(tapes.tape_needs((0, (), ()), wanted), ((1, "b"), (2, "c")))
+
+    def test_lists_and_dicts_of_the_later_stages_changed_afterwards(self):
+        parts = list(PARTS)
+        program = programs.Program(BOXES, parts)
+        parts.append(("more", ()))
+        self.assertEqual(program, PROGRAM)
+        names = program.names()
+        names.append("more")
+        self.assertEqual(program.names(), ["p", "main"])
+        deeds = BENCH.deeds()
+        deeds.pop()
+        self.assertEqual(len(BENCH.deeds()), 2)
+        table = movedforms.table_of(DESK, MOVED, DEPTHS)
+        told = movedforms.put_together(DESK, DEPTHS, table, (0, 0), movedforms.table_of(DESK, (), (0, 0)))
+        table[CLS] = None
+        self.assertEqual(told, TABLE)
+        pairs = [("s", STACK)]
+        made = several.Boxes(pairs)
+        pairs[0] = ("q", ("queue",))
+        self.assertEqual(made.names(), ["s"])
+
+    def test_what_changes_something_returns_none(self):
+        for name, named, deeds in DOING:
+            for given in (named, dict(reversed(named.items()))):
+                one, other = a_bench(), a_bench()
+                self.assertIsNone(getattr(one, name)(**given))
+                self.assertIsNone(getattr(other, name)(*named.values()))
+                self.assertEqual((len(one), one), (deeds, other))
+                with self.assertRaises(TypeError):
+                    getattr(one, name)(*named.values(), None)
+
+    def test_calls_that_raise_change_nothing(self):
+        made = a_bench()
+        for name, named, _ in DOING[:2]:
+            for key in named:
+                self.assertIsNotNone(raised(getattr(made, name), **{**named, key: None}))
+        self.assertEqual(raised(made.undo_of, name="x"), ("NoBox", "x"))
+        self.assertEqual(raised(made.do, row=(("g", ("add", 9)),)), ("NoWork", None))
+        self.assertEqual((made, made.now()), (a_bench(), a_bench().now()))
+        made.redo()
+        self.assertEqual(len(made), 3)
+
+    def test_the_parameter_behind_the_star_only_by_name(self):
+        made = a_bench()
+        self.assertEqual(made.trying(guest=len), 0)
+        self.assertEqual(made.trying(kept=True, guest=lambda bench: bench.do(MIXED[1:2])), None)
+        self.assertEqual(len(made), 3)
+        with self.assertRaises(TypeError):
+            made.trying(len, True)
+
+    def test_objects_are_equal_only_to_their_own_class(self):
+        objects = [BOXES, PROGRAM, BENCH, console.Console(), PAIRS, PARTS, None]
+        for one in objects:
+            self.assertEqual([other == one for other in objects], [other is one for other in objects])
+        self.assertEqual(several.Boxes(list(PAIRS)), BOXES)
+        self.assertNotEqual(several.Boxes(PAIRS[::-1]), BOXES)
 
     def test_true_and_false_are_no_numbers_and_nothing_else(self):
         for call, named in CALLS:

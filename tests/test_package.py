@@ -1,6 +1,7 @@
 """The package as a whole: its files, its interface, its size, and the examples of README.md."""
 
 import ast
+import builtins
 import doctest
 import unittest
 from pathlib import Path
@@ -52,22 +53,52 @@ INTERFACE = {
                  "load_left(desk,row,load) failing_moved(desk,row,load) loads_along(desk,row,load) "
                  "met_boxes(desk,row) met_registers(desk,row) first_read(desk,row)",
     "signs": "depths_of(desk,row) classes_at(desk,depths) class_of(desk,depths,load) signs_of(desk,row,depths,cls)",
+    "classes": "form_in(desk,row,depths,cls) is_moved_form(desk,depths,cls,value) moved_works(desk,depths,cls,form,load) "
+               "moved_left(desk,depths,cls,form,load) told_load(desk,depths,cls,form)",
+    "movedforms": "table_of(desk,row,depths) shared_depths(desk,one,other) moved_alike(desk,one,other) "
+                  "first_parting_class(desk,one,other) moved_less(desk,one,other) is_table(desk,depths,value) "
+                  "put_together(desk,depths,table,other_depths,other)",
+    "whereabouts": "terms_behind(desk,row,depths,cls) whereabouts(desk,row,depths,cls) lost_parts(desk,row,depths,cls) "
+                   "loses_nothing(desk,row,depths,cls) can_be_left(desk,row,depths,cls,load) "
+                   "load_ahead(desk,row,depths,cls,load) do_meet(desk,row,depths,one,other) is_one_to_one(desk,row) "
+                   "merged_paper(desk,row) accepts_merged(desk,row,value)",
+    "parting": "fresh_letters(rows,many) does_part(kind,one,other,contents) trials_for(kind,one,other) "
+               "told_parting(kind,one,other) part_paper(kind,one,other) accepts_part(kind,one,other,value) "
+               "told_key(kind,rows)",
+    "movedparting": "moved_trials(desk,one,other) moved_parting(desk,one,other) moved_does_part(desk,one,other,load)",
+    "programs": "reached_parts(program) length_of(program,name) step_at(program,k) times_done(program,step) "
+                "shown_row(program) part_form(program,name) program_form(program) form_behind(program,k) "
+                "does_work(program,contents) program_left(program,contents) failing_number(program,contents) "
+                "steps_left(program,k,contents) programs_alike(one,other) is_program_less(one,other) idle_acts(program)",
+    "texts": "is_thing(value) write_text(thing) read_text(text) lines_due(text)",
 }
 # The methods of each class of the interface, each defined in the class itself.
 CLASSES = {
     ("several", "Boxes"): "__init__(self,pairs) names(self) kind_of(self,name) has_step(self,value) __eq__(self,other)",
+    ("programs", "Program"): "__init__(self,boxes,parts) boxes(self) parts(self) names(self) acts_of(self,name) "
+                             "from_row(boxes,row) __eq__(self,other)",
+    ("bench", "Bench"): "__init__(self,boxes,contents) boxes(self) now(self) deeds(self) was(self,moment) "
+                        "form_between(self,one,other) do(self,row) repeat(self,row,times) undo(self) redo(self) "
+                        "undo_of(self,name) __len__(self) trying(self,guest,*,kept) twin(self) __eq__(self,other)",
+    ("console", "Console"): "__init__(self) run(self,line)",
 }
 METHODS = (
     "add append clear copy count endswith extend find get index insert items join keys pop remove setdefault "
-    "startswith update values"
+    "split startswith update values"
+).split()
+# The names of the methods, and of the one attribute that is read from outside, of the package's own classes.
+OWN_METHODS = (
+    "names kind_of has_step pairs told tell tell_all tie tie_part are_kept parts next_one next_ones under do form at at_all "
+    "length times step form_of_acts first_form run boxes acts_of ahead are_more taken taken_word end now deeds was "
+    "form_between repeat undo redo undo_of"
 ).split()
 
 
-OWN_METHODS = "names kind_of has_step pairs".split()
-
-
 def signature(node):
-    return f"{node.name}({','.join(arg.arg for arg in node.args.args)})"
+    names = [arg.arg for arg in node.args.args]
+    if node.args.kwonlyargs:
+        names += ["*"] + [arg.arg for arg in node.args.kwonlyargs]
+    return f"{node.name}({','.join(names)})"
 
 
 def trees():
@@ -117,6 +148,30 @@ class Package(unittest.TestCase):
                     for alias in node.names:
                         self.assertIsNone(alias.asname)
                         self.assertIn(alias.name, here, name)
+
+    def test_no_two_files_import_from_each_other(self):
+        sources = {name: {node.module.partition(".")[2] for node in ast.walk(tree) if isinstance(node, ast.ImportFrom)}
+                   for name, tree in trees().items()}
+        while sources:
+            leaves = [name for name in sources if not sources[name] & set(sources)]
+            self.assertNotEqual(leaves, [], sources)
+            for name in leaves:
+                del sources[name]
+
+    def test_each_name_has_one_meaning(self):
+        for name, tree in trees().items():
+            imported = [alias.name for node in tree.body if isinstance(node, ast.ImportFrom) for alias in node.names]
+            own = [node.name for node in tree.body if isinstance(node, (ast.FunctionDef, ast.ClassDef))]
+            own += [node.targets[0].id for node in tree.body if isinstance(node, ast.Assign)]
+            self.assertEqual(len(set(imported + own)), len(imported + own), name)
+            read = {node.id for node in ast.walk(tree) if isinstance(node, ast.Name) and isinstance(node.ctx, ast.Load)}
+            self.assertEqual(set(imported) - read, set(), name)
+            for node in ast.walk(tree):
+                if isinstance(node, ast.FunctionDef):
+                    local = {arg.arg for arg in node.args.args + node.args.kwonlyargs}
+                    local |= {inner.id for inner in ast.walk(node) if isinstance(inner, ast.Name)
+                              and isinstance(inner.ctx, ast.Store)}
+                    self.assertEqual(local & (set(imported + own) | set(dir(builtins))), set(), (name, node.name))
 
     def test_methods_of_values_are_the_allowed_ones(self):
         for name, tree in trees().items():
