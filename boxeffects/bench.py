@@ -139,13 +139,14 @@ class Bench:
     def _take_out(self, place):
         deed = self._deeds.pop(place)
         # Nothing behind the deed touches its boxes: they stay as they were ahead of it.
-        names = touched_by(deed)
+        touched = touched_by(deed)
+        names = self._boxes.names()
         ahead = self._moments[place]
         later = self._moments[place + 2:]
         self._moments = self._moments[:place + 1]
         for contents in later:
-            parts = zip(self._boxes.names(), ahead, contents)
-            self._moments.append(tuple([first if name in names else part for name, first, part in parts]))
+            left = [first if name in touched else part for name, first, part in zip(names, ahead, contents)]
+            self._moments.append(tuple(left))
         self._undone.append(deed)
 
     def trying(self, guest, *, kept=False):

@@ -48,5 +48,6 @@ def two_lost(desk, row, cls, form):
         if sign not in letters:
             letters[sign] = new.next_one()
     lost = parts_lost(desk, row, cls, form)[0]
-    other = {**letters, **{sign: letter for sign, letter in zip(lost, new.next_ones(1) * len(lost))}}
+    letter = new.next_one()
+    other = {sign: letter if sign in lost else letters[sign] for sign in letters}
     return load_with(desk, cls, letters, {}, rests), load_with(desk, cls, other, {}, rests)

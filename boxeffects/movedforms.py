@@ -29,8 +29,9 @@ def shared_depths(desk, one, other):
     """Return the tuple of the greater depths of both rows."""
     need_moved_row(desk, one)
     need_moved_row(desk, other)
-    both = zip(depths_by_boxes(desk, one), depths_by_boxes(desk, other))
-    return tuple([max(first, second) for first, second in both])
+    first = depths_by_boxes(desk, one)
+    second = depths_by_boxes(desk, other)
+    return tuple([max(depth, deeper) for depth, deeper in zip(first, second)])
 
 
 def forms_beside(desk, one, other):

@@ -3,7 +3,7 @@
 from boxeffects.classes import terms_of
 from boxeffects.lettering import NewLetters, letters_for, letters_of_moved, load_with, places_in
 from boxeffects.movedforms import forms_beside, shared_depths
-from boxeffects.registers import load_left, need_load, need_moved_row
+from boxeffects.registers import load_left, need_moved_row
 from boxeffects.signed import open_boxes
 from boxeffects.ties import is_sign, ties_of
 from boxeffects.trials import each_once
@@ -68,5 +68,4 @@ def moved_does_part(desk, one, other, load):
     """Tell whether the load parts the rows."""
     need_moved_row(desk, one)
     need_moved_row(desk, other)
-    need_load(desk, load)
     return are_moved_parted(desk, one, other, load)

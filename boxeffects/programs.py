@@ -251,18 +251,16 @@ def is_program_less(one, other):
 def form_without(program, reckoning, name, index):
     """Return the mixed form of the program without one act of a part that is reached."""
     acts = program.acts_of(name)
-    acts = acts[:index] + acts[index + 1:]
-    changed = reckoning.form_of_acts(acts)
+    changed = reckoning.form_of_acts(acts[:index] + acts[index + 1:])
     if changed == reckoning.form(name):
         return reckoning.form(main_of(program))
-    parts = [(part, acts if part == name else program.acts_of(part)) for part in program.names()]
-    # The parts ahead of this one stay as they are.
+    # The parts ahead of this one stay as they are, and its own acts are not asked any more.
     known = {name: changed}
     for part in reached_parts(program):
         if part == name:
             break
         known[part] = reckoning.form(part)
-    return Reckoning(program.boxes(), parts, known).form(main_of(program))
+    return Reckoning(program.boxes(), program.parts(), known).form(main_of(program))
 
 
 def is_idle(program, reckoning, name, index):

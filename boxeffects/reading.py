@@ -46,7 +46,7 @@ def value_of(role, word):
 
 def read_parts(words, roles):
     """Return the tuple of what the words of a line tell, one for each role."""
-    if not words or len(words) != len(roles):
+    if len(words) != len(roles):
         return None
     if not all([fits_role(role, word) for role, word in zip(roles, words)]):
         return None

@@ -99,7 +99,7 @@ class Reckoning:
         times, left = divmod(k, self._lengths[act[-1]])
         if times > 0:
             made = self._joined(made, mixed_power(self._kinds, self.form(act[-1]), times))
-        return self._joined(made, self.first_form(act[-1], left)) if left > 0 else made
+        return self._joined(made, self.first_form(act[-1], left))
 
     def run(self, name, states, k):
         """Do the first k steps of a part on states.

@@ -88,8 +88,6 @@ def trials_as_they_come(kind, rows):
     if name == "ring":
         return ring_trials(kind, new)
     forms = [form for form in [form_of(kind, row) for row in rows] if form is not None]
-    if not forms:
-        return []
     if name == "stack":
         return stack_trials(forms)
     if name == "queue":

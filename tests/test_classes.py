@@ -143,7 +143,7 @@ class IsForm(unittest.TestCase):
             (((("s", None),), "a"),), (((["s", 1],), "a"),), (((("s", 1, 1),), "a"),), ((((),), "a"),), ((("r",), "a"),),
             (((R, ("s", 1)), None), ((("q", 1),), "a")), (((("q", 1),), "a"), ((R,), "a")),
             (((("q", 1), R), None), ((R, ("s", 1)), None)), (((R,), "a"), ((R,), "b")), (((Everything(),), "a"),),
-            (((R,), Everything()),),
+            (((R,), Everything()),), ((((Everything(),),), "a"),), ((((Everything(), 1),), "a"),), (((("s", 1), R), "a"),), (((("s", 1), ("q", 1)), "b"),),
         )
         for parts in wrong:
             self.check(False, parts, left)
@@ -175,6 +175,10 @@ class IsForm(unittest.TestCase):
         self.check(False, (), ((((), ("z",)), stack), letters), cls=(0, 1))
         self.check(False, (), ((((), ("z",)), stack), letters), depths=(2, 2))
         self.check(True, (), ((box, stack), letters), cls=(0, 1))
+        # A stack has none, open or not.
+        for depths in ((1, 1), (1, 2)):
+            self.check(True, (), ((box, stack), letters), depths=depths)
+            self.check(False, (), ((box, ((), ("z",))), letters), depths=depths)
         self.check(False, (), ((box, ((("s", 1),), ())), letters), cls=(1, 0))
 
     def test_4000_terms_and_more(self):

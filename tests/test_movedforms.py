@@ -200,6 +200,10 @@ class Together(unittest.TestCase):
         one, other = table_of(ONE_TAPE, (LOOK, RIGHT), (0,)), table_of(ONE_TAPE, (LAY_A, LOOK, RIGHT), (0,))
         told = put_together(ONE_TAPE, (0,), one, (0,), other)
         self.assertEqual(told, {(0,): ((), (((2, ((1, ("t", 0)),)),), (("t", 0), ("b",))))})
+        # What the second one looks at is what the first one wrote there, counted from where the head stands.
+        one, other = table_of(ONE_TAPE, (RIGHT, ("t", ("write", "x"))), (0,)), table_of(ONE_TAPE, (LOOK,), (0,))
+        told = put_together(ONE_TAPE, (0,), one, (0,), other)
+        self.assertEqual(told, {(0,): ((), (((1, ((1, "x"),)),), ("x", ("b",))))})
         ring = ((("d", DROP),), ())
         put = table_of(ring, (("d", ("put", "x")),), (0,))
         self.assertEqual(put_together(ring, (0,), put, (0,), put), table_of(ring, (("d", ("put", "x")),) * 2, (0,)))

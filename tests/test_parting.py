@@ -246,6 +246,7 @@ class Papers(unittest.TestCase):
                         paper[1] + ((("a",), Everything(), Everything()),), paper[1] + ((Everything(), None, None),)):
             self.assertIs(accepts_part(QUEUE, one, other, ("alike", triples)), False)
         self.assertIs(accepts_part(QUEUE, one, other, ("alike",)), False)
+        self.assertIs(accepts_part(QUEUE, one, other, ("like", paper[1])), False)
         self.assertIs(accepts_part(QUEUE, one, other, paper + ((),)), False)
         self.assertIs(accepts_part(QUEUE, one, other, ("alike", paper[1])), True)
 

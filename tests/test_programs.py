@@ -128,7 +128,8 @@ class Making(unittest.TestCase):
             ("q", (("call", ["p"]),)), ("q", (("repeat", 3),)), ("q", (("repeat", 0, "p"),)), ("q", (("repeat", TRILLION + 1, "p"),)),
             ("q", (("repeat", True, "p"),)), ("q", (("repeat", 2.0, "p"),)), ("q", (("repeat", -1, "p"),)), ("q", (("repeat", 2, "q"),)),
             ("q", (("repeat", "p", 2),)), ("q", (("repeat", 2, "p", "p"),)), ("q", (("jump", "p"),)), ("q", ((None, "p"),)),
-            ("q", ((Everything(), "p"),)), ("q", (("call", Everything()),)), (Everything(), ()), Everything(), *ODD,
+            ("q", ((Everything(), "p"),)), ("q", ((Everything(), "s", ("push", "a")),)), ("q", (("jump", 2, "p"),)), ("q", (("do", "s", ("push", "a"), "p"),)),
+            ("q", (("repeat", 2, 3, "p"),)), ("q", (("call", Everything()),)), (Everything(), ()), Everything(), *ODD,
         ):
             self.assertEqual(raised(Program, BOXES, [good, bad, bad]), ("NoProgram", 1), bad)
         self.assertEqual(raised(Program, BOXES, [("p", (("call", "q"),)), ("q", ())]), ("NoProgram", 0))

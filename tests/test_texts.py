@@ -116,7 +116,7 @@ class Things(unittest.TestCase):
         row, load = (("put", "x"),), (((), ()), ("k", "l"))
         for value in (
             None, (), ("row",), ("row", QUEUE), ("row", QUEUE, row, ()), ["row", QUEUE, row], ("row", QUEUE, list(row)), ("row", STACK, row),
-            ("row", "queue", row), ("row", list(QUEUE), row), ("rows", QUEUE, row), (None, QUEUE, row), (("row",), QUEUE, row),
+            ("row", "queue", row), ("row", list(QUEUE), row), ("rows", QUEUE, row), ("boxes", PAIRS, (((), (), 0), ((), ()))), (None, QUEUE, row), (("row",), QUEUE, row),
             (Everything(), QUEUE, row), ("row", QUEUE, row * 61), ("row", ("ring", 13, "drop"), ()), ("contents", QUEUE, ["x"]),
             ("contents", QUEUE, None), ("contents", FAIL, True), ("contents", FAIL, 10), ("contents", RING, ("x",) * 4),
             ("contents", STACK, ("x",) * 4001), ("contents", HEAP, (2, 1)), ("contents", TAPE, (((0, "x"),), "x")), ("form", QUEUE, None),
@@ -165,7 +165,7 @@ class Fitting(unittest.TestCase):
             self.check(lines, len(lines))
 
     def test_lines_that_do_not_fit(self):
-        for lines in (("",), ("kind",), ("kind box",), ("kind ring 13 drop",), ("kind ring 3 stop",), ("kind ring 03 drop",), ("kind ring 3",),
+        for lines in (("",), ("box",), ("kind",), ("kind box",), ("kind ring 13 drop",), ("kind ring 3 stop",), ("kind ring 03 drop",), ("kind ring 3",),
                       ("kind gauge 1000 stop",), ("kind stack 1",), ("Kind stack",), ("row",), ("box q",), ("box Q queue",), ("box abcde stack",),
                       ("box q queue 1",), ("register a",), ("part p",), ("kind  stack",), (" kind stack",), ("kind stack ",), ("kind\tstack",),
                       ("mixed",), ("kind ring 0 drop",), ("kind ring -1 drop",)):
@@ -173,7 +173,7 @@ class Fitting(unittest.TestCase):
         for lines in (("kind stack", "mixed"), ("kind stack", "row x"), ("kind stack", ""), ("kind stack", "kind stack"), ("kind stack", "Row"),
                       ("box q queue", "row"), ("box q queue", "kind stack"), ("box q queue", "program"), ("box q queue", "register A"),
                       ("box q queue", "register"), ("box q queue", "register a b"), ("box q queue", "part"), ("box q queue", "part P"),
-                      ("box q queue", "do q put x"), ("box q queue", "part abcde"), ("box q queue", "")):
+                      ("box q queue", "do q put x"), ("box q queue", "part abcde"), ("box q queue", ""), ("box q queue", "box")):
             self.check(lines, 1)
         for word in ("mixed", "all", "forms", "part p", "box s stack", "row", "program"):
             self.check(("box q queue", "register a", word), 2)
@@ -215,7 +215,7 @@ class Fitting(unittest.TestCase):
             (("queue", "-", "-", "-1", "0"), 5), (("ring 1 drop", "fails", "fails", "fails"), 4), (("ring 1 drop", "a"), 2),
             (("ring 1 drop", "-"), 2), (("ring 1 drop", "1 -"), 2), (("ring 1 drop", "7 a b c", "fails x"), 3), (("tape", "-"), 2),
             (("tape", "0", "a 1"), 3), (("tape", "0", "1 a", "1 a 2"), 4), (("tape", "0", "-", "-", "-"), 5), (("heap", "x"), 2),
-            (("heap", "0", "1 0 0"), 3), (("heap", "0", ". 0 0", ". 0 0"), 4), (("heap", "0", ". 0 0", "1 0"), 4), (("heap", "0", "."), 3),
+            (("heap", "0", "1 0 0"), 3), (("heap", "0", "a 0 0"), 3), (("heap", "0", ". 0 0", ". 0 0"), 4), (("heap", "0", ". 0 0", "1 0"), 4), (("heap", "0", "."), 3),
             (("heap", "0", ". 0 0", "5 1 1", "-"), 5), (("gauge 5 fail", "0 0"), 2), (("gauge 5 fail", "0 0 0", "0 0 0"), 3),
             (("gauge 5 fail", "0 0 x"), 2), (("table", "a"), 2), (("table", "a .", "a 1"), 3), (("table", "-", "a b .", "-"), 3),
             (("table", ". a"), 2), (("stack", ""), 2), (("gauge 5 fail", "-"), 2),
@@ -279,7 +279,7 @@ class Fitting(unittest.TestCase):
         for line in ("do q put x", "do g add 77", "call p", "call zzzz", "repeat 0 p", "repeat -1 x", "repeat 9999999999999 p", "part p"):
             self.assertEqual(lines_due("\n".join(head + (line,))), 4)
         for line in ("do x put x", "do q add 1", "q put x", "do q", "do", "call", "call P", "call p p", "repeat p", "repeat 01 p", "repeat 2",
-                     "repeat 2 p p", "part", "part p p", "part Main", "", "do q put x y", "do q draw a", "mixed", "box r queue", "register a"):
+                     "repeat 2 p p", "part", "part p p", "part Main", "", "do q put x y", "do q draw a", "mixed", "jump 2 p", "put 2 p", "box r queue", "register a"):
             self.check(head + ("do q put x", line), 4)
 
     def test_what_was_told_twice(self):

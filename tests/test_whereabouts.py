@@ -279,6 +279,11 @@ class Meeting(unittest.TestCase):
         row = (("d", ("draw", "a")), ("d", ("put", "x")), ("d", ("draw", "b")), ("d", ("put", "y")), ("d", ("put", "y")),
                ("is", "a", "z"))
         self.assertIs(do_meet(RING, row, (0,), (1,), (2,)), True)
+        # Of length 0 the letter drawn is the second one that was put, of length 1 the first one.
+        desk = ((("d", ("ring", 3, "drop")),), ("a", "b"))
+        row = (("d", ("put", "x")), ("d", ("put", "y")), ("d", ("take",)), ("d", ("draw", "b"))) + (("d", ("put", "z")),) * 3
+        self.assertEqual([form_in(desk, row, (0,), (many,))[1][1][1] for many in (0, 1)], ["y", "x"])
+        self.assertIs(do_meet(desk, row, (0,), (0,), (1,)), False)
         row = (("d", ("draw", "a")), ("d", ("lay", "a")), ("d", ("draw", "b")), ("is", "a", "x"), ("d", ("put", "y")), ("d", ("put", "y")),
                ("is", "b", "z"))
         self.assertIsNone(form_in(RING, row, (0,), (1,)))
@@ -396,6 +401,10 @@ class Merged(unittest.TestCase):
             ("merged", one, ((("b",), ()), ("c",))), ("merged", ((("b",) * 4001,), ("a",)), ((("b",) * 4001,), ("c",))), None, "merged", *ODD,
         ):
             self.assertIs(accepts_merged(ONE, (DRAW,), value), False)
+        # The row must work on both: what it leaves is not what stood ahead of a step that fails.
+        desk = ((("d", DROP),), ())
+        for loads in (((((),), ()), ((("x",),), ())), (((("x",),), ()), (((),), ()))):
+            self.assertIs(accepts_merged(desk, (("d", ("take",)),), ("merged",) + loads), False)
         # The row itself must lead them to one.
         self.assertIs(accepts_merged(ONE, (LAY, DRAW), ("merged", one, two)), False)
         # What is left may be longer than is told.
